@@ -1,0 +1,1 @@
+"""Lostlines: programs whose lines may not happen."""

@@ -1,0 +1,137 @@
+"""What can come of a program whose lines may be lost, or happen more than once."""
+
+from lostlines.checks import check_losses, check_machine, check_many, check_program, check_wishes, is_losses
+from lostlines.runs import behind_line, behind_losses, first_pairs, pairs_at_end, pairs_behind
+from lostlines.terms import Store
+
+
+def check_lossy(machine, program, many):
+    """Check the arguments that all functions of this file begin with."""
+    check_machine(machine)
+    check_program(machine, program)
+    check_many(many)
+
+
+def run_lost(machine, program, many, losses):
+    """The terms that the cells hold behind a program whose lines with these numbers are lost."""
+    check_lossy(machine, program, many)
+    check_losses(program, many, losses)
+    store = Store(machine[0])
+    return store.terms(behind_losses(store, program, losses))
+
+
+def outcomes(machine, program, many):
+    """The unlike tuples of what the cells can hold behind a program, ascending by their texts."""
+    check_lossy(machine, program, many)
+    store = Store(machine[0])
+    found = {}
+    for holds, _ in pairs_at_end(store, program, many):
+        found[store.texts(holds)] = store.terms(holds)
+    return tuple([found[texts] for texts in sorted(found)])
+
+
+def sure_of(store, pairs, cell):
+    """The term that a cell holds in all pairs, None if there are several."""
+    held = [holds[cell] for holds, _ in pairs]
+    if any([number != held[0] for number in held]):
+        return None
+    return store.terms(held)[0]
+
+
+def sure_of_all(store, pairs):
+    """For each cell the term that it holds in all pairs, or None."""
+    return tuple([sure_of(store, pairs, cell) for cell in range(len(store.at_first))])
+
+
+def sure_terms(machine, program, many):
+    """For each moment, for each cell, the term that it is sure of, or None."""
+    check_lossy(machine, program, many)
+    store = Store(machine[0])
+    pairs = first_pairs(store)
+    found = [sure_of_all(store, pairs)]
+    for number, line in enumerate(program):
+        pairs = pairs_behind(store, pairs, number, line, many)
+        found.append(sure_of_all(store, pairs))
+    return tuple(found)
+
+
+def wanted_numbers(store, wishes):
+    """The wishes with the numbers of their terms."""
+    return [(cell, store.number(term)) for cell, term in wishes]
+
+
+def are_fulfilled(holds, wanted):
+    """Whether each wished cell holds its term, by their numbers."""
+    return all([holds[cell] == number for cell, number in wanted])
+
+
+def fewest_harm(machine, program, many, wishes):
+    """Losses of as few lines as can be that leave some wish unfulfilled, or None."""
+    store = Store(machine[0])
+    wanted = wanted_numbers(store, wishes)
+    pairs = pairs_at_end(store, program, many)
+    fewest = None
+    for (holds, _), losses in pairs.items():
+        if not are_fulfilled(holds, wanted) and (fewest is None or len(losses) < len(fewest)):
+            fewest = losses
+    return fewest
+
+
+def is_proof(machine, program, many, wishes):
+    """Whether all wishes are fulfilled behind a program whatever is lost of it."""
+    check_lossy(machine, program, many)
+    check_wishes(machine, wishes)
+    return fewest_harm(machine, program, many, wishes) is None
+
+
+def harm(machine, program, many, wishes):
+    """Losses of as few lines as can be that leave some wish unfulfilled, None without any."""
+    check_lossy(machine, program, many)
+    check_wishes(machine, wishes)
+    return fewest_harm(machine, program, many, wishes)
+
+
+def shows_harm(machine, program, many, wishes, value):
+    """Whether a value is what harm may return."""
+    check_lossy(machine, program, many)
+    check_wishes(machine, wishes)
+    fewest = fewest_harm(machine, program, many, wishes)
+    if fewest is None:
+        return value is None
+    if not is_losses(program, many, value) or len(value) != len(fewest):
+        return False
+    store = Store(machine[0])
+    wanted = wanted_numbers(store, wishes)
+    return not are_fulfilled(behind_losses(store, program, value), wanted)
+
+
+def repeated(program, times):
+    """A program each line of which stands so many times."""
+    return [line for line in program for _ in range(times)]
+
+
+def sure_behind_repeats(store, program):
+    """For each cell the number of the term that it holds however often lines happen, or None.
+
+    Nothing is known of the functions, so what one makes is the same in all runs
+    just if all that it reads is. A line that reads the cell it sets makes a
+    deeper term each time that it happens, so behind it the cell is sure of none.
+    """
+    sure = store.at_first
+    for line in program:
+        cell, _, sources = line
+        if cell in sources or any([sure[source] is None for source in sources]):
+            sure = sure[:cell] + (None,) + sure[cell + 1:]
+        else:
+            sure = behind_line(store, sure, line)
+    return sure
+
+
+def is_repeat_proof(machine, program, many, wishes):
+    """Whether all wishes are fulfilled if each line may happen up to many times more than once."""
+    check_lossy(machine, program, many)
+    check_wishes(machine, wishes)
+    store = Store(machine[0])
+    # No run makes deeper terms than the one in which all lines happen as often as can be.
+    behind_losses(store, repeated(program, many + 1), ())
+    return are_fulfilled(sure_behind_repeats(store, program), wanted_numbers(store, wishes))

@@ -1,0 +1,57 @@
+"""Terms: their texts, and a store that gives them numbers."""
+
+from lostlines.errors import TooMany
+
+DEEPEST = 8
+
+
+def text_of(term):
+    """The text of a term."""
+    if isinstance(term, int):
+        return f"c{term}"
+    inner = ",".join([text_of(part) for part in term[1:]])
+    return f"f{term[0]}({inner})"
+
+
+class Store:
+    """The terms that come in one answer, each under a number of its own.
+
+    Runs keep and compare these numbers instead of the terms: equal terms have
+    equal numbers, and a dict's keys stay flat however deep the terms grow.
+    """
+
+    def __init__(self, cells):
+        self.at_first = tuple(range(cells))
+        self._terms = list(range(cells))
+        self._depths = [1 for _ in range(cells)]
+        self._numbers = {}
+        self._texts = {}
+
+    def made(self, function, parts):
+        """The number of what a function makes of the terms with these numbers."""
+        key = (function, parts)
+        if key not in self._numbers:
+            depth = 1 + max([self._depths[part] for part in parts])
+            if depth > DEEPEST:
+                raise TooMany(DEEPEST)
+            self._numbers[key] = len(self._terms)
+            self._terms.append((function,) + self.terms(parts))
+            self._depths.append(depth)
+        return self._numbers[key]
+
+    def number(self, term):
+        """The number of a term of at most the greatest depth."""
+        if isinstance(term, int):
+            return term
+        return self.made(term[0], tuple([self.number(part) for part in term[1:]]))
+
+    def terms(self, numbers):
+        """The terms with these numbers."""
+        return tuple([self._terms[number] for number in numbers])
+
+    def texts(self, numbers):
+        """The texts of the terms with these numbers."""
+        for number in numbers:
+            if number not in self._texts:
+                self._texts[number] = text_of(self._terms[number])
+        return tuple([self._texts[number] for number in numbers])
