@@ -1,6 +1,6 @@
 """What arguments must be: each check raises the error that the document names."""
 
-from lostlines.errors import BadLosses, BadMachine, BadNumber, BadProgram, BadTerm, BadWishes
+from lostlines.errors import BadChance, BadLosses, BadMachine, BadNumber, BadProgram, BadTerm, BadWishes
 from lostlines.terms import DEEPEST
 
 MOST_CELLS = 4
@@ -8,6 +8,7 @@ MOST_FUNCTIONS = 3
 MOST_READ = 2
 MOST_LINES = 60
 MOST_NEIGHBOURS = 3
+MOST_BOTTOM = 1000
 
 
 def is_between(value, low, high):
@@ -27,12 +28,12 @@ def are_functions(value):
     return all([is_between(reads, 1, MOST_READ) for reads in value])
 
 
-def check_machine(machine):
-    """Raise BadMachine for a value that is no machine."""
+def check_machine(machine, most_cells=MOST_CELLS):
+    """Raise BadMachine for a value that is no machine, or one of more cells than that."""
     if not isinstance(machine, tuple) or len(machine) != 2:
         raise BadMachine("machine")
     cells, functions = machine
-    if not is_between(cells, 1, MOST_CELLS):
+    if not is_between(cells, 1, most_cells):
         raise BadMachine("cells")
     if not are_functions(functions):
         raise BadMachine("functions")
@@ -54,6 +55,17 @@ def is_line(machine, value):
         return False
     cell, function, sources = value
     return is_number_below(cell, machine[0]) and are_sources(machine, function, cell, sources)
+
+
+def are_lines(machine, value):
+    """Whether a value is a tuple of lines for a machine, however many."""
+    return isinstance(value, tuple) and all([is_line(machine, line) for line in value])
+
+
+def is_gentle_line(line):
+    """Whether a line does not read the cell that it sets."""
+    cell, _, sources = line
+    return cell not in sources
 
 
 def check_program(machine, program):
@@ -90,6 +102,15 @@ def check_many(many):
     """Raise BadNumber for a value that is no number of neighbours."""
     if not is_between(many, 1, MOST_NEIGHBOURS):
         raise BadNumber("no integer from 1 to 3")
+
+
+def check_chance(chance):
+    """Raise BadChance for a value that is no chance."""
+    if not isinstance(chance, tuple) or len(chance) != 2:
+        raise BadChance("no pair")
+    top, bottom = chance
+    if not is_between(bottom, 1, MOST_BOTTOM) or not is_between(top, 0, bottom):
+        raise BadChance("no integers that make a chance")
 
 
 def is_losses(program, many, value):

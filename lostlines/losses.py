@@ -1,8 +1,9 @@
 """What can come of a program whose lines may be lost, or happen more than once."""
 
 from lostlines.checks import check_losses, check_machine, check_many, check_program, check_wishes, is_losses
-from lostlines.runs import behind_line, behind_losses, first_pairs, pairs_at_end, pairs_behind
+from lostlines.runs import behind_line, behind_losses, first_pairs, pairs_at_end, pairs_behind, repeated
 from lostlines.terms import Store
+from lostlines.wanted import are_fulfilled, check_parts, wanted_numbers
 
 
 def check_lossy(machine, program, many):
@@ -55,16 +56,6 @@ def sure_terms(machine, program, many):
     return tuple(found)
 
 
-def wanted_numbers(store, wishes):
-    """The wishes with the numbers of their terms."""
-    return [(cell, store.number(term)) for cell, term in wishes]
-
-
-def are_fulfilled(holds, wanted):
-    """Whether each wished cell holds its term, by their numbers."""
-    return all([holds[cell] == number for cell, number in wanted])
-
-
 def fewest_harm(machine, program, many, wishes):
     """Losses of as few lines as can be that leave some wish unfulfilled, or None."""
     store = Store(machine[0])
@@ -105,11 +96,6 @@ def shows_harm(machine, program, many, wishes, value):
     return not are_fulfilled(behind_losses(store, program, value), wanted)
 
 
-def repeated(program, times):
-    """A program each line of which stands so many times."""
-    return [line for line in program for _ in range(times)]
-
-
 def sure_behind_repeats(store, program):
     """For each cell the number of the term that it holds however often lines happen, or None.
 
@@ -134,4 +120,5 @@ def is_repeat_proof(machine, program, many, wishes):
     store = Store(machine[0])
     # No run makes deeper terms than the one in which all lines happen as often as can be.
     behind_losses(store, repeated(program, many + 1), ())
+    check_parts(machine, wishes)
     return are_fulfilled(sure_behind_repeats(store, program), wanted_numbers(store, wishes))

@@ -1,6 +1,6 @@
 """Machines, their programs and the terms that cells hold."""
 
-from lostlines.checks import check_machine, check_program, check_term
+from lostlines.checks import check_machine, check_program, check_term, is_gentle_line
 from lostlines.runs import behind_losses
 from lostlines.terms import Store, text_of
 
@@ -9,7 +9,7 @@ def is_gentle(machine, program):
     """Whether no line of a program reads the cell that it sets."""
     check_machine(machine)
     check_program(machine, program)
-    return all([cell not in sources for cell, function, sources in program])
+    return all([is_gentle_line(line) for line in program])
 
 
 def run(machine, program):

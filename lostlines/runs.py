@@ -1,5 +1,6 @@
 """How programs run, on the numbers that a store gives to terms."""
 
+from lostlines.checks import MOST_LINES
 from lostlines.errors import TooMany
 
 MOST_PAIRS = 3000
@@ -23,6 +24,18 @@ def behind_losses(store, program, losses):
         if number not in losses:
             holds = behind_line(store, holds, line)
     return holds
+
+
+def repeated(lines, times):
+    """Lines each of which stands so many times, one behind another."""
+    return tuple([line for line in lines for _ in range(times)])
+
+
+def within_most_lines(lines):
+    """The lines themselves, if they are no more than a program may have as an argument."""
+    if len(lines) > MOST_LINES:
+        raise TooMany(MOST_LINES)
+    return lines
 
 
 def first_pairs(store):

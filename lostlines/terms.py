@@ -20,8 +20,9 @@ class Store:
     equal numbers, and a dict's keys stay flat however deep the terms grow.
     """
 
-    def __init__(self, cells):
+    def __init__(self, cells, deepest=DEEPEST):
         self.at_first = tuple(range(cells))
+        self._deepest = deepest
         self._terms = list(range(cells))
         self._depths = [1 for _ in range(cells)]
         self._numbers = {}
@@ -32,8 +33,8 @@ class Store:
         key = (function, parts)
         if key not in self._numbers:
             depth = 1 + max([self._depths[part] for part in parts])
-            if depth > DEEPEST:
-                raise TooMany(DEEPEST)
+            if depth > self._deepest:
+                raise TooMany(self._deepest)
             self._numbers[key] = len(self._terms)
             self._terms.append((function,) + self.terms(parts))
             self._depths.append(depth)

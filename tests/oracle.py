@@ -88,3 +88,54 @@ def is_repeat_proof(machine, program, many, wishes):
         lines = [line for line, often in zip(program, times) for _ in range(often)]
         answers.append(is_fulfilled(ran(machine, lines), wishes))
     return all(answers)
+
+
+def all_lines(machine):
+    """Every line of a machine."""
+    cells, functions = machine
+    copies = [(cell, None, (source,)) for cell in range(cells) for source in range(cells) if cell != source]
+    return copies + [
+        (cell, function, sources)
+        for cell in range(cells)
+        for function, reads in enumerate(functions)
+        for sources in product(range(cells), repeat=reads)
+    ]
+
+
+def gentle_lines(machine):
+    return [line for line in all_lines(machine) if line[0] not in line[2]]
+
+
+def all_programs(lines, most_lines):
+    """Every program of up to so many of these lines, the short ones first."""
+    return [program for size in range(most_lines + 1) for program in product(lines, repeat=size)]
+
+
+def lengths(machine, lines, deepest):
+    """For all that the cells can hold by these lines, no term ever deeper than told, the least number of lines."""
+    found = {tuple(range(machine[0])): 0}
+    ahead = list(found)
+    while ahead:
+        behind = []
+        for holds in ahead:
+            for line in lines:
+                held = done(holds, line)
+                if depth(held[line[0]]) <= deepest and held not in found:
+                    found[held] = found[holds] + 1
+                    behind.append(held)
+        ahead = behind
+    return found
+
+
+def least(found, wishes):
+    """The least number of lines, of those that lengths tells, behind which wishes are fulfilled, or None."""
+    return min((count for holds, count in found.items() if is_fulfilled(holds, wishes)), default=None)
+
+
+def terms(machine, deepest):
+    """All terms of a machine that are at most so deep."""
+    found = list(range(machine[0]))
+    for _ in range(deepest - 1):
+        made = [(f, *read) for f, reads in enumerate(machine[1]) for read in product(found, repeat=reads)]
+        found = list(range(machine[0])) + made
+    return found

@@ -45,9 +45,9 @@ OVER_LIMIT = (
 LEVELLING = tuple((cell, None, (3,)) for cell in (0, 1, 2) for _ in range(4))
 
 
-def deep(depth):
-    """A term of the lone machine's function that is so deep."""
-    term = 0
+def deep(depth, cell=0):
+    """A term of the lone machine's function that is so deep, made of what a cell holds at first."""
+    term = cell
     for _ in range(depth - 1):
         term = (0, term)
     return term
@@ -59,6 +59,11 @@ def wide(depth):
     for _ in range(depth - 1):
         term = (1, term, term)
     return term
+
+
+# Wishes for the pair that have just 16 unlike parts, and 17.
+SIXTEEN = ((0, deep(8)), (1, deep(8, 1)))
+SEVENTEEN = ((0, deep(8)), (1, (1, deep(7, 1), (1, 0, 0))))
 
 
 def some_line(chance, machine):

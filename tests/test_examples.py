@@ -25,6 +25,41 @@ LOSSES = """
 raises BadLosses()
 """
 
+SEARCHES = """
+>>> from lostlines.searches import can_be_proof, least_cells, least_gentle_lines, least_lines, proof_program, proofed, shortest, shortest_gentle
+>>> from lostlines.searches import shows_shortest, shows_shortest_gentle, with_spare
+>>> lone = (1, (1,))
+>>> pair = (2, (1, 2))
+>>> own = ((0, (0, 0)),)
+>>> [shortest(lone, own), shortest_gentle(lone, own), can_be_proof(lone, own), can_be_proof(pair, own), least_lines(pair, own), least_gentle_lines(pair, own)]
+[((0, 0, (0,)),), None, False, True, 1, 2]
+>>> [least_cells(lone, own), proofed(pair, ((1, 0, (0,)),), 1), with_spare(lone, ((0, 0, (0,)),))]
+[(1, 2), ((1, 0, (0,)), (1, 0, (0,))), ((2, (1,)), ((1, 0, (0,)), (0, None, (1,))))]
+>>> [shows_shortest(pair, own, ((0, 0, (0,)),)), shows_shortest_gentle(pair, own, ((0, 0, (0,)),)), proofed(pair, ((1, 0, (0,)),), 2)]
+[True, False, ((1, 0, (0,)), (1, 0, (0,)), (1, 0, (0,)))]
+>>> proof_program(lone, 1, own)
+raises NoProgram()
+"""
+
+COPIES = """
+>>> from lostlines.copies import right_chance, spared
+>>> pair = (2, (1, 2))
+>>> once = (1, 0, (0,))
+>>> [spared(pair, (once,), 1, ((1, (0, 0)),)), spared(pair, (once,), 2, ((0, 0),)), right_chance(pair, (once, once), (1, 3), ((1, (0, 0)),))]
+[((2,),), ((1,),), (8, 9)]
+>>> right_chance(pair, (once,), (2, 1), ((0, 0),))
+raises BadChance()
+"""
+
+BENCHES = """
+>>> from lostlines.benches import Bench
+>>> bench = Bench((2, (1,)))
+>>> [bench.do((1, 0, (0,))), bench.lose((0, None, (1,))), bench.holds, bench.due, bench.losses, bench.undo(), bench.lines]
+[None, None, (0, (0, 0)), ((0, 0), (0, 0)), (1,), None, ((1, 0, (0,)),)]
+>>> bench.do((0, 0, (2,)))
+raises BadProgram(index=None)
+"""
+
 
 def answer(code, names):
     """What an example's line shows: its value, or the error that it raises with its fields."""
@@ -56,6 +91,15 @@ class Examples(unittest.TestCase):
 
     def test_losses(self):
         self.assertEqual(self.check(LOSSES), 4)
+
+    def test_searches(self):
+        self.assertEqual(self.check(SEARCHES), 4)
+
+    def test_copies(self):
+        self.assertEqual(self.check(COPIES), 2)
+
+    def test_benches(self):
+        self.assertEqual(self.check(BENCHES), 2)
 
 
 if __name__ == "__main__":

@@ -1,118 +1,21 @@
-"""Point 1, and the errors of points 2 to 5: wrong values for each argument, two at once, and which error comes first."""
+"""Point 1, and the errors of all points: wrong values for each argument, two at once, and which error comes first."""
 
 import copy
 import unittest
 from itertools import combinations
 
 from lostlines import errors
+from lostlines.copies import right_chance, spared
 from lostlines.losses import harm, is_proof, is_repeat_proof, outcomes, run_lost, shows_harm, sure_terms
 from lostlines.machines import is_gentle, run, term_text
-from tests.samples import AT_LIMIT, FOUR, LEVELLING, LONE, ODD_VALUES, ONCE, OVER_LIMIT, OWN, PAIR, deep, wide
-
-# What an argument is, by its place in each function.
-FUNCTIONS = (
-    (is_gentle, ("machine", "program")),
-    (run, ("machine", "program")),
-    (term_text, ("machine", "term")),
-    (run_lost, ("machine", "program", "many", "losses")),
-    (outcomes, ("machine", "program", "many")),
-    (sure_terms, ("machine", "program", "many")),
-    (is_proof, ("machine", "program", "many", "wishes")),
-    (harm, ("machine", "program", "many", "wishes")),
-    (shows_harm, ("machine", "program", "many", "wishes", "value")),
-    (is_repeat_proof, ("machine", "program", "many", "wishes")),
+from lostlines.searches import (
+    can_be_proof, least_cells, least_gentle_lines, least_lines, proof_program, shortest, shortest_gentle,
+    shows_shortest, shows_shortest_gentle, with_spare,
 )
-
-RIGHT = {
-    "machine": PAIR, "program": (ONCE, ONCE, (0, None, (1,)), ONCE, ONCE), "term": (0, 1), "many": 1,
-    "losses": (0,), "wishes": ((0, 0), (1, 1)), "value": (0,),
-}
-
-MACHINES = (
-    (None, "machine"), (True, "machine"), (2, "machine"), ("ab", "machine"), ((), "machine"), ((2,), "machine"),
-    ([2, (1, 2)], "machine"), ((2, (1, 2), 0), "machine"), ({0: 2, 1: (1, 2)}, "machine"), (((2, (1, 2)),), "machine"),
-    ((0, (1, 2)), "cells"), ((-1, (1, 2)), "cells"), ((5, (1, 2)), "cells"), ((True, (1, 2)), "cells"),
-    ((None, (1, 2)), "cells"), (("2", (1, 2)), "cells"), (((2,), (1, 2)), "cells"), (([], (1, 2)), "cells"),
-    ((0, ()), "cells"), ((5, [1]), "cells"), ((False, None), "cells"),
-    ((2, ()), "functions"), ((2, (1, 1, 1, 1)), "functions"), ((2, [1, 2]), "functions"), ((2, 1), "functions"),
-    ((2, None), "functions"), ((2, "12"), "functions"), ((2, {1: 2}), "functions"), ((2, (0,)), "functions"),
-    ((2, (1, 3)), "functions"), ((2, (3, 1)), "functions"), ((2, (1, 2, 0)), "functions"), ((2, (-1,)), "functions"),
-    ((2, (True, 2)), "functions"), ((2, (1, True)), "functions"), ((2, (None,)), "functions"),
-    ((2, ("1",)), "functions"), ((2, ((1,),)), "functions"), ((2, ([1],)), "functions"),
+from tests.samples import (
+    AT_LIMIT, FOUR, LEVELLING, LONE, ODD_VALUES, ONCE, OVER_LIMIT, OWN, PAIR, SEVENTEEN, SIXTEEN, deep, wide,
 )
-
-NO_LINES = (
-    None, True, 0, "c0 = c1", (), (1,), (1, 0), [1, 0, (0,)], (1, 0, (0,), 0), {0: 1, 1: 0, 2: (0,)}, ((1, 0, (0,)),),
-    # The cell:
-    (2, 0, (0,)), (-1, 0, (0,)), (True, 0, (0,)), (False, 0, (1,)), (None, 0, (0,)), ("1", 0, (0,)), ((1,), 0, (0,)),
-    # The function:
-    (1, 2, (0,)), (1, -1, (0, 0)), (1, False, (0,)), (1, True, (0, 0)), (1, "0", (0,)), (1, (0,), (0,)), (1, [], (0,)),
-    # The sources:
-    (1, 0, 0), (1, 0, None), (1, 0, [0]), (1, 0, "0"), (1, 0, {0: 0}), (1, 0, ()), (1, 0, (0, 0)), (1, 1, (0,)),
-    (1, 1, (0, 0, 0)), (1, 1, ()), (1, 0, (2,)), (1, 0, (-1,)), (1, 1, (0, 2)), (1, 1, (2, 0)), (1, 1, (0, -1)),
-    (1, 0, (False,)), (1, 1, (0, True)), (1, 0, (None,)), (1, 0, ("0",)), (1, 0, ((0,),)), (1, 1, (0, [])),
-    # Copies:
-    (0, None, (0,)), (1, None, (1,)), (1, None, ()), (1, None, (0, 0)), (1, None, (0, 1)), (1, None, 0),
-    (1, None, [0]), (1, None, (2,)), (1, None, (-1,)), (1, None, (False,)), (1, None, None), (2, None, (0,)),
-)
-
-PROGRAMS = (
-    (None, None), (False, None), (0, None), ("", None), ([], None), ([ONCE], None), ({}, None), ({0: ONCE}, None),
-    ((ONCE,) * 61, None), ((ONCE,) * 200, None), ((None,) * 61, None), ((ONCE,) * 60 + (None,), None),
-    (ONCE, 0), ((None,), 0), ((ONCE, None), 1), ((ONCE, None, ONCE, None), 1), ((ONCE,) * 59 + (None,), 59),
-) + tuple(((line,), 0) for line in NO_LINES) + tuple(((ONCE, ONCE, line, None), 2) for line in NO_LINES)
-
-NUMBERS = tuple((value, ()) for value in (
-    0, 4, -1, 100, True, False, None, "", "1", (), (1,), [], [1], {}, {1: 1}))
-
-LOSSES = tuple((value, ()) for value in (
-    None, True, 0, 1, "0", [], [0], {}, {0: 0}, ((),), ((0,),), (None,), ("0",), ([],), (True,), (False,), (0, True),
-    (5,), (-1,), (0, 5), (-1, 1), (0, 0), (2, 0), (0, 3, 2), (4, 1), (0, 1), (3, 4), (0, 2, 3), (0, 1, 2, 3, 4),
-    (0, None), (0, "2"), (0, (2,)), (0, [2])))
-
-NO_TERMS = (
-    None, True, False, -1, 2, 4, "", "c0", "0", (), (0,), [0, 0], [], {}, {0: 0}, (0, 0, 0), (1, 0), (1, 0, 0, 0),
-    (2, 0), (-1, 0, 0), (-2, 0), (True, 0, 0), (False, 0), (None, 0), ("0", 0), ((0,), 0), (0, 2), (0, -1), (0, None),
-    (0, True), (0, "0"), (0, [0, 0]), (0, ()), (0, (0,)), (0, (0, 0, 0)), (1, 0, 2), (1, 2, 0), (1, 0, False),
-    (1, (0, 0), (0, (0, 5))), (1, (0, True), 0), deep(9), wide(9), (0, wide(8)), (1, 0, deep(8)), (1, deep(8), 0),
-    deep(400),
-)
-
-TERMS = tuple((value, ()) for value in NO_TERMS)
-
-NO_WISHES = (
-    None, True, 0, "", (), (0,), [0, 0], (0, 0, 0), {0: 0}, ((0, 0),), (2, 0), (-1, 0), (True, 0), (False, 0),
-    (None, 0), ("0", 0), ((0,), 0), ([], 0),
-) + tuple((0, term) for term in NO_TERMS)
-
-WISHES = (
-    (None, None), (True, None), (0, None), ("", None), ((), None), ([], None), ([(0, 0)], None), ({}, None),
-    ({0: 0}, None),
-    ((0, 0), 0), (((0, 0), None), 1), (((0, 0), (0, 0)), 1), (((0, 0), (0, 1)), 1), (((1, 0), (0, 0)), 1),
-    (((1, 0), (1, 1), (0, 0)), 1), (((0, 0), (1, 1), (1, 1)), 2), (((0, 0), (1, 1), (2, 0)), 2),
-    (((0, 0), (1, 1), (0, 0)), 2), (((0, 5), (0, 0)), 0), (((1, 1), (1, 5)), 1),
-) + tuple(((wish,), 0) for wish in NO_WISHES) + tuple(((wish, (1, 1), None), 0) for wish in NO_WISHES)
-WISHES += tuple((((0, 0), (1, wish[1])), 1) for wish in NO_WISHES if isinstance(wish, tuple) and wish[:1] == (0,)
-                and len(wish) == 2 and wish[1] != 0)
-
-# For each kind of argument: its error, the name of the error's field, and pairs of a wrong value and the field.
-WRONG = {
-    "machine": (errors.BadMachine, "part", MACHINES),
-    "program": (errors.BadProgram, "index", PROGRAMS),
-    "term": (errors.BadTerm, None, TERMS),
-    "many": (errors.BadNumber, None, NUMBERS),
-    "losses": (errors.BadLosses, None, LOSSES),
-    "wishes": (errors.BadWishes, "index", WISHES),
-}
-
-FEW = {
-    "machine": ((7, "machine"), ((9, ()), "cells"), ((2, ()), "functions")),
-    "program": ((7, None), ((ONCE, 7), 1)),
-    "term": ((None, ()), (deep(9), ())),
-    "many": ((0, ()), (True, ()), (None, ())),
-    "losses": ((None, ()), ((0, 1), ()), ((60,), ())),
-    "wishes": ((None, None), ((), None), (((0, 0), (0, 0)), 1)),
-}
+from tests.wrongs import FEW, FUNCTIONS, NOT_RUN, RIGHT, WRONG
 
 
 class Case(unittest.TestCase):
@@ -126,6 +29,13 @@ class Case(unittest.TestCase):
             if field is not None:
                 found = getattr(caught.exception, field)
                 self.assertEqual((found.__class__, found), (worth.__class__, worth))
+
+
+    def too_many(self, most, function, *arguments):
+        with self.subTest(function=function.__name__, arguments=arguments):
+            with self.assertRaises(errors.TooMany) as caught:
+                function(*arguments)
+            self.assertEqual(caught.exception.most, most)
 
 
 class OneWrong(Case):
@@ -181,6 +91,17 @@ class Limits(Case):
     def test_numbers(self):
         for many in (1, 2, 3):
             self.assertEqual(outcomes(PAIR, (), many), ((0, 1),))
+
+    def test_room_for_a_spare_cell(self):
+        self.assertEqual(with_spare((3, (1, 2)), ()), ((4, (1, 2)), ()))
+        for program in ((), (ONCE,), None):
+            self.fails(with_spare, ((4, (1, 2)), program), "machine", "cells")
+        self.fails(with_spare, ((4, ()), ()), "machine", "cells")
+        self.fails(with_spare, ((3, ()), ()), "machine", "functions")
+
+    def test_chances(self):
+        for chance in ((0, 1), (1, 1), (0, 1000), (1000, 1000), (999, 1000), (2, 4)):
+            self.assertEqual(right_chance(PAIR, (), chance, ((0, 0),)), (1, 1))
 
     def test_losses(self):
         program = (ONCE,) * 8
@@ -249,12 +170,48 @@ class TooManyComesLast(Case):
 
     def test_behind_nothing_else(self):
         for function, kinds in FUNCTIONS:
-            if "program" not in kinds or function is is_gentle:
-                continue
-            arguments = [PAIR, self.DEEP, *[RIGHT[name] for name in kinds[2:]]]
-            with self.subTest(function.__name__), self.assertRaises(errors.TooMany) as caught:
-                function(*arguments)
-            self.assertEqual(caught.exception.most, 8)
+            # The deep program is not gentle, so spared has another error for it.
+            if "program" in kinds and function not in (*NOT_RUN, spared):
+                self.too_many(8, function, PAIR, self.DEEP, *[RIGHT[name] for name in kinds[2:]])
+
+    def test_too_deep_a_gentle_program(self):
+        program = (ONCE, (0, 0, (1,))) * 4 + ((0, None, (1,)),)
+        self.too_many(8, spared, PAIR, program, 1, ((0, deep(8)),))
+        self.fails(spared, (PAIR, program, 1, ((0, deep(7)),)), "program", None)
+        self.fails(spared, (PAIR, self.DEEP, 1, ((0, 1),)), "program", None)
+
+    def test_too_many_parts(self):
+        functions = [function for function, kinds in FUNCTIONS if kinds == ("machine", "wishes")]
+        self.assertEqual(len(functions), 6)
+        for function in functions:
+            self.too_many(16, function, PAIR, SEVENTEEN)
+            self.fails(function, (PAIR, SEVENTEEN + ((1, 0),)), "wishes", 2)
+            self.fails(function, (LONE, SEVENTEEN), "wishes", 1)
+            self.fails(function, ((5, 1), SEVENTEEN), "machine", "cells")
+        for value in (*ODD_VALUES, ((0, 0, (0,)),) * 7):
+            self.too_many(16, shows_shortest, PAIR, SEVENTEEN, value)
+            self.too_many(16, shows_shortest_gentle, PAIR, SEVENTEEN, value)
+
+    def test_as_many_parts_as_can_be(self):
+        self.assertEqual([least_lines(PAIR, SIXTEEN), least_gentle_lines(PAIR, SIXTEEN)], [14, None])
+        self.assertEqual([can_be_proof(PAIR, SIXTEEN), least_cells(PAIR, SIXTEEN)], [False, (2, 3)])
+        self.assertEqual([len(shortest(PAIR, SIXTEEN)), shortest_gentle(PAIR, SIXTEEN)], [14, None])
+
+    def test_parts_come_ahead_of_no_program(self):
+        with self.assertRaises(errors.NoProgram):
+            proof_program(PAIR, 1, SIXTEEN)
+        self.too_many(16, proof_program, PAIR, 1, SEVENTEEN)
+        self.fails(proof_program, (PAIR, 4, SEVENTEEN), "many", ())
+        self.fails(proof_program, (PAIR, 4, ()), "many", ())
+
+    def test_parts_of_a_repeated_program(self):
+        self.too_many(16, is_repeat_proof, PAIR, (), 1, SEVENTEEN)
+        self.assertIs(is_repeat_proof(PAIR, (), 1, SIXTEEN), False)
+        self.fails(is_repeat_proof, (PAIR, (), 0, SEVENTEEN), "many", ())
+        self.too_many(8, is_repeat_proof, PAIR, self.DEEP, 1, SEVENTEEN)
+        self.assertIs(is_proof(PAIR, (), 1, SEVENTEEN), False)
+        self.assertEqual(harm(PAIR, (), 1, SEVENTEEN), ())
+        self.assertEqual(right_chance(PAIR, (), (1, 2), SEVENTEEN), (0, 1))
 
     def test_whatever_is_shown(self):
         for value in ODD_VALUES:

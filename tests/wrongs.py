@@ -1,0 +1,139 @@
+"""The functions with the kinds of their arguments, right values of each kind and wrong ones with the error's field."""
+
+from lostlines import errors
+from lostlines.copies import right_chance, spared
+from lostlines.losses import harm, is_proof, is_repeat_proof, outcomes, run_lost, shows_harm, sure_terms
+from lostlines.machines import is_gentle, run, term_text
+from lostlines.searches import (
+    can_be_proof, least_cells, least_gentle_lines, least_lines, proof_program, proofed, shortest, shortest_gentle,
+    shows_shortest, shows_shortest_gentle, with_spare,
+)
+from tests.samples import ONCE, PAIR, deep, wide
+
+# What an argument is, by its place in each function.
+FUNCTIONS = (
+    (is_gentle, ("machine", "program")),
+    (run, ("machine", "program")),
+    (term_text, ("machine", "term")),
+    (run_lost, ("machine", "program", "many", "losses")),
+    (outcomes, ("machine", "program", "many")),
+    (sure_terms, ("machine", "program", "many")),
+    (is_proof, ("machine", "program", "many", "wishes")),
+    (harm, ("machine", "program", "many", "wishes")),
+    (shows_harm, ("machine", "program", "many", "wishes", "value")),
+    (is_repeat_proof, ("machine", "program", "many", "wishes")),
+    (shortest, ("machine", "wishes")),
+    (shortest_gentle, ("machine", "wishes")),
+    (least_lines, ("machine", "wishes")),
+    (least_gentle_lines, ("machine", "wishes")),
+    (shows_shortest, ("machine", "wishes", "value")),
+    (shows_shortest_gentle, ("machine", "wishes", "value")),
+    (can_be_proof, ("machine", "wishes")),
+    (proofed, ("machine", "program", "many")),
+    (proof_program, ("machine", "many", "wishes")),
+    (with_spare, ("machine", "program")),
+    (least_cells, ("machine", "wishes")),
+    (spared, ("machine", "program", "many", "wishes")),
+    (right_chance, ("machine", "program", "chance", "wishes")),
+)
+
+# Those that take a program but do not run it.
+NOT_RUN = (is_gentle, proofed, with_spare)
+
+RIGHT = {
+    "machine": PAIR, "program": (ONCE, ONCE, (0, None, (1,)), ONCE, ONCE), "term": (0, 1), "many": 1,
+    "losses": (0,), "wishes": ((0, (0, 0)), (1, (0, (0, 0)))), "value": (0,), "chance": (1, 3),
+}
+
+MACHINES = (
+    (None, "machine"), (True, "machine"), (2, "machine"), ("ab", "machine"), ((), "machine"), ((2,), "machine"),
+    ([2, (1, 2)], "machine"), ((2, (1, 2), 0), "machine"), ({0: 2, 1: (1, 2)}, "machine"), (((2, (1, 2)),), "machine"),
+    ((0, (1, 2)), "cells"), ((-1, (1, 2)), "cells"), ((5, (1, 2)), "cells"), ((True, (1, 2)), "cells"),
+    ((None, (1, 2)), "cells"), (("2", (1, 2)), "cells"), (((2,), (1, 2)), "cells"), (([], (1, 2)), "cells"),
+    ((0, ()), "cells"), ((5, [1]), "cells"), ((False, None), "cells"),
+    ((2, ()), "functions"), ((2, (1, 1, 1, 1)), "functions"), ((2, [1, 2]), "functions"), ((2, 1), "functions"),
+    ((2, None), "functions"), ((2, "12"), "functions"), ((2, {1: 2}), "functions"), ((2, (0,)), "functions"),
+    ((2, (1, 3)), "functions"), ((2, (3, 1)), "functions"), ((2, (1, 2, 0)), "functions"), ((2, (-1,)), "functions"),
+    ((2, (True, 2)), "functions"), ((2, (1, True)), "functions"), ((2, (None,)), "functions"),
+    ((2, ("1",)), "functions"), ((2, ((1,),)), "functions"), ((2, ([1],)), "functions"),
+)
+
+NO_LINES = (
+    None, True, 0, "c0 = c1", (), (1,), (1, 0), [1, 0, (0,)], (1, 0, (0,), 0), {0: 1, 1: 0, 2: (0,)}, ((1, 0, (0,)),),
+    # The cell:
+    (2, 0, (0,)), (-1, 0, (0,)), (True, 0, (0,)), (False, 0, (1,)), (None, 0, (0,)), ("1", 0, (0,)), ((1,), 0, (0,)),
+    # The function:
+    (1, 2, (0,)), (1, -1, (0, 0)), (1, False, (0,)), (1, True, (0, 0)), (1, "0", (0,)), (1, (0,), (0,)), (1, [], (0,)),
+    # The sources:
+    (1, 0, 0), (1, 0, None), (1, 0, [0]), (1, 0, "0"), (1, 0, {0: 0}), (1, 0, ()), (1, 0, (0, 0)), (1, 1, (0,)),
+    (1, 1, (0, 0, 0)), (1, 1, ()), (1, 0, (2,)), (1, 0, (-1,)), (1, 1, (0, 2)), (1, 1, (2, 0)), (1, 1, (0, -1)),
+    (1, 0, (False,)), (1, 1, (0, True)), (1, 0, (None,)), (1, 0, ("0",)), (1, 0, ((0,),)), (1, 1, (0, [])),
+    # Copies:
+    (0, None, (0,)), (1, None, (1,)), (1, None, ()), (1, None, (0, 0)), (1, None, (0, 1)), (1, None, 0),
+    (1, None, [0]), (1, None, (2,)), (1, None, (-1,)), (1, None, (False,)), (1, None, None), (2, None, (0,)),
+)
+
+PROGRAMS = (
+    (None, None), (False, None), (0, None), ("", None), ([], None), ([ONCE], None), ({}, None), ({0: ONCE}, None),
+    ((ONCE,) * 61, None), ((ONCE,) * 200, None), ((None,) * 61, None), ((ONCE,) * 60 + (None,), None),
+    (ONCE, 0), ((None,), 0), ((ONCE, None), 1), ((ONCE, None, ONCE, None), 1), ((ONCE,) * 59 + (None,), 59),
+) + tuple(((line,), 0) for line in NO_LINES) + tuple(((ONCE, ONCE, line, None), 2) for line in NO_LINES)
+
+NUMBERS = tuple((value, ()) for value in (
+    0, 4, -1, 100, True, False, None, "", "1", (), (1,), [], [1], {}, {1: 1}))
+
+LOSSES = tuple((value, ()) for value in (
+    None, True, 0, 1, "0", [], [0], {}, {0: 0}, ((),), ((0,),), (None,), ("0",), ([],), (True,), (False,), (0, True),
+    (5,), (-1,), (0, 5), (-1, 1), (0, 0), (2, 0), (0, 3, 2), (4, 1), (0, 1), (3, 4), (0, 2, 3), (0, 1, 2, 3, 4),
+    (0, None), (0, "2"), (0, (2,)), (0, [2])))
+
+NO_TERMS = (
+    None, True, False, -1, 2, 4, "", "c0", "0", (), (0,), [0, 0], [], {}, {0: 0}, (0, 0, 0), (1, 0), (1, 0, 0, 0),
+    (2, 0), (-1, 0, 0), (-2, 0), (True, 0, 0), (False, 0), (None, 0), ("0", 0), ((0,), 0), (0, 2), (0, -1), (0, None),
+    (0, True), (0, "0"), (0, [0, 0]), (0, ()), (0, (0,)), (0, (0, 0, 0)), (1, 0, 2), (1, 2, 0), (1, 0, False),
+    (1, (0, 0), (0, (0, 5))), (1, (0, True), 0), deep(9), wide(9), (0, wide(8)), (1, 0, deep(8)), (1, deep(8), 0),
+    deep(400),
+)
+
+TERMS = tuple((value, ()) for value in NO_TERMS)
+
+NO_WISHES = (
+    None, True, 0, "", (), (0,), [0, 0], (0, 0, 0), {0: 0}, ((0, 0),), (2, 0), (-1, 0), (True, 0), (False, 0),
+    (None, 0), ("0", 0), ((0,), 0), ([], 0),
+) + tuple((0, term) for term in NO_TERMS)
+
+WISHES = (
+    (None, None), (True, None), (0, None), ("", None), ((), None), ([], None), ([(0, 0)], None), ({}, None),
+    ({0: 0}, None),
+    ((0, 0), 0), (((0, 0), None), 1), (((0, 0), (0, 0)), 1), (((0, 0), (0, 1)), 1), (((1, 0), (0, 0)), 1),
+    (((1, 0), (1, 1), (0, 0)), 1), (((0, 0), (1, 1), (1, 1)), 2), (((0, 0), (1, 1), (2, 0)), 2),
+    (((0, 0), (1, 1), (0, 0)), 2), (((0, 5), (0, 0)), 0), (((1, 1), (1, 5)), 1),
+) + tuple(((wish,), 0) for wish in NO_WISHES) + tuple(((wish, (1, 1), None), 0) for wish in NO_WISHES)
+WISHES += tuple((((0, 0), (1, wish[1])), 1) for wish in NO_WISHES if isinstance(wish, tuple) and wish[:1] == (0,)
+                and len(wish) == 2 and wish[1] != 0)
+
+CHANCES = tuple((value, ()) for value in (
+    None, True, 0, 1, "", "12", (), (1,), (1, 2, 3), [1, 2], {1: 2}, ((1, 2),), (0, 0), (1, 0), (-1, 2), (2, 1),
+    (-1, -2), (0, -1), (1, -1), (0, 1001), (1001, 1001), (4, 3), (1001, 1000), (True, 2), (False, 1), (0, True),
+    (1, True), (None, 2), (1, None), ("1", 2), (1, "2"), ((1,), 2), (1, (2,)), ([], 2), (0, []), (0, {})))
+
+# For each kind of argument: its error, the name of the error's field, and pairs of a wrong value and the field.
+WRONG = {
+    "machine": (errors.BadMachine, "part", MACHINES),
+    "program": (errors.BadProgram, "index", PROGRAMS),
+    "term": (errors.BadTerm, None, TERMS),
+    "many": (errors.BadNumber, None, NUMBERS),
+    "losses": (errors.BadLosses, None, LOSSES),
+    "wishes": (errors.BadWishes, "index", WISHES),
+    "chance": (errors.BadChance, None, CHANCES),
+}
+
+FEW = {
+    "machine": ((7, "machine"), ((9, ()), "cells"), ((2, ()), "functions")),
+    "program": ((7, None), ((ONCE, 7), 1)),
+    "term": ((None, ()), (deep(9), ())),
+    "many": ((0, ()), (True, ()), (None, ())),
+    "losses": ((None, ()), ((0, 1), ()), ((60,), ())),
+    "wishes": ((None, None), ((), None), (((0, 0), (0, 0)), 1)),
+    "chance": ((None, ()), ((1, 0), ()), ((0, 1001), ())),
+}
