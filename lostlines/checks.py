@@ -1,6 +1,9 @@
 """What arguments must be: each check raises the error that the document names."""
 
-from lostlines.errors import BadChance, BadLosses, BadMachine, BadNumber, BadProgram, BadTerm, BadWishes
+from lostlines.errors import (
+    BadChance, BadLosses, BadMachine, BadNumber, BadProgram, BadRule, BadSwaps, BadTalk, BadTerm, BadWishes,
+)
+from lostlines.limits import lets
 from lostlines.terms import DEEPEST
 
 MOST_CELLS = 4
@@ -9,6 +12,7 @@ MOST_READ = 2
 MOST_LINES = 60
 MOST_NEIGHBOURS = 3
 MOST_BOTTOM = 1000
+MOST_WIDTH = 6
 
 
 def is_between(value, low, high):
@@ -113,22 +117,52 @@ def check_chance(chance):
         raise BadChance("no integers that make a chance")
 
 
-def is_losses(program, many, value):
-    """Whether a value is losses of a program that lets so many neighbouring lines be lost."""
-    if not isinstance(value, tuple):
+def are_numbers(value, limit):
+    """Whether a value is an ascending tuple of unlike numbers of so many things."""
+    if not isinstance(value, tuple) or not all([is_number_below(number, limit) for number in value]):
         return False
-    if not all([is_number_below(number, len(program)) for number in value]):
-        return False
-    if not all([value[at] < value[at + 1] for at in range(len(value) - 1)]):
-        return False
-    # Of ascending numbers, many + 1 are neighbours just if the last is many above the first.
-    return all([value[at + many] - value[at] > many for at in range(len(value) - many)])
+    return all([value[at] < value[at + 1] for at in range(len(value) - 1)])
 
 
-def check_losses(program, many, losses):
-    """Raise BadLosses for a value that is no losses of a program."""
-    if not is_losses(program, many, losses):
+def is_losses(program, rule, value):
+    """Whether a value is losses of a program that a rule of loss lets be."""
+    return are_numbers(value, len(program)) and lets(rule, len(program), value)
+
+
+def check_losses(program, rule, losses):
+    """Raise BadLosses for a value that is no losses of a program under a rule of loss."""
+    if not is_losses(program, rule, losses):
         raise BadLosses("no losses of the program")
+
+
+def is_rule(program, value):
+    """Whether a value is a rule of loss for a program."""
+    if not isinstance(value, tuple) or len(value) < 2:
+        return False
+    if value[0] == "all":
+        return len(value) == 2 and is_between(value[1], 0, MOST_LINES)
+    if value[0] == "window":
+        return len(value) == 3 and is_between(value[1], 1, MOST_WIDTH) and is_between(value[2], 0, value[1])
+    return value[0] == "kept" and len(value) == 2 and are_numbers(value[1], len(program))
+
+
+def check_rule(program, rule):
+    """Raise BadRule for a value that is no rule of loss for a program."""
+    if not is_rule(program, rule):
+        raise BadRule("no rule for the program")
+
+
+def is_swaps(program, value):
+    """Whether a value is swaps of a program."""
+    if not are_numbers(value, len(program) - 1):
+        return False
+    return all([value[at] + 1 < value[at + 1] for at in range(len(value) - 1)])
+
+
+def check_swaps(program, swaps):
+    """Raise BadSwaps for a value that is no swaps of a program."""
+    if not is_swaps(program, swaps):
+        raise BadSwaps("no swaps of the program")
 
 
 def is_wish(machine, value):
@@ -148,3 +182,17 @@ def check_wishes(machine, wishes):
         if not is_wish(machine, wish) or wish[0] <= above:
             raise BadWishes(index)
         above = wish[0]
+
+
+def is_saying(machine, value):
+    """Whether a value is a line of a talk that says what a cell holds."""
+    return isinstance(value, tuple) and len(value) == 2 and value[0] == "say" and is_number_below(value[1], machine[0])
+
+
+def check_talk(machine, talk):
+    """Raise BadTalk for a value that is no talk for a machine."""
+    if not isinstance(talk, tuple) or len(talk) > MOST_LINES:
+        raise BadTalk(None)
+    for index, line in enumerate(talk):
+        if not is_line(machine, line) and not is_saying(machine, line):
+            raise BadTalk(index)

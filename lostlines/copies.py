@@ -3,8 +3,9 @@
 from math import gcd
 
 from lostlines.checks import check_chance, check_machine, check_many, check_program, check_wishes, is_gentle_line
-from lostlines.errors import BadProgram, TooMany
-from lostlines.runs import MOST_PAIRS, behind_line, behind_losses, pairs_at_end
+from lostlines.errors import BadProgram
+from lostlines.limits import neighbouring
+from lostlines.runs import behind_line, behind_losses, pairs_at_end, within_most_pairs
 from lostlines.terms import DEEPEST, Store
 from lostlines.wanted import are_fulfilled, wanted_numbers
 
@@ -82,7 +83,7 @@ def spared(machine, program, many, wishes):
         raise BadProgram(None)
     store = Store(machine[0])
     # However often the lines stand, no run comes that does not come with each line standing once.
-    pairs_at_end(store, program, many)
+    pairs_at_end(store, program, neighbouring(many))
     harms = [stretches_of(losses) for losses in least_harms(store, program, many, wishes)]
     total = len(program)
     rows = averting_rows(harms, len(program), many, total)
@@ -105,9 +106,7 @@ def weights_behind(store, weights, line, top, bottom):
         if top < bottom:
             add_weight(found, behind_line(store, holds, line), weight * (bottom - top))
         add_weight(found, holds, weight * top)
-    if len(found) > MOST_PAIRS:
-        raise TooMany(MOST_PAIRS)
-    return found
+    return within_most_pairs(found)
 
 
 def right_chance(machine, program, chance, wishes):

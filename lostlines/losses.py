@@ -1,7 +1,9 @@
 """What can come of a program whose lines may be lost, or happen more than once."""
 
-from lostlines.checks import check_losses, check_machine, check_many, check_program, check_wishes, is_losses
-from lostlines.runs import behind_line, behind_losses, first_pairs, pairs_at_end, pairs_behind, repeated
+from lostlines.checks import check_losses, check_machine, check_many, check_program, check_wishes
+from lostlines.harms import are_fewest_losses, fewest_losses, outcomes_under
+from lostlines.limits import neighbouring
+from lostlines.runs import behind_line, behind_losses, first_pairs, pairs_behind, repeated
 from lostlines.terms import Store
 from lostlines.wanted import are_fulfilled, check_parts, wanted_numbers
 
@@ -16,7 +18,7 @@ def check_lossy(machine, program, many):
 def run_lost(machine, program, many, losses):
     """The terms that the cells hold behind a program whose lines with these numbers are lost."""
     check_lossy(machine, program, many)
-    check_losses(program, many, losses)
+    check_losses(program, neighbouring(many), losses)
     store = Store(machine[0])
     return store.terms(behind_losses(store, program, losses))
 
@@ -24,11 +26,7 @@ def run_lost(machine, program, many, losses):
 def outcomes(machine, program, many):
     """The unlike tuples of what the cells can hold behind a program, ascending by their texts."""
     check_lossy(machine, program, many)
-    store = Store(machine[0])
-    found = {}
-    for holds, _ in pairs_at_end(store, program, many):
-        found[store.texts(holds)] = store.terms(holds)
-    return tuple([found[texts] for texts in sorted(found)])
+    return outcomes_under(machine, program, neighbouring(many))
 
 
 def sure_of(store, pairs, cell):
@@ -47,53 +45,33 @@ def sure_of_all(store, pairs):
 def sure_terms(machine, program, many):
     """For each moment, for each cell, the term that it is sure of, or None."""
     check_lossy(machine, program, many)
+    rule = neighbouring(many)
     store = Store(machine[0])
-    pairs = first_pairs(store)
+    pairs = first_pairs(store, rule)
     found = [sure_of_all(store, pairs)]
     for number, line in enumerate(program):
-        pairs = pairs_behind(store, pairs, number, line, many)
+        pairs = pairs_behind(store, pairs, number, line, rule)
         found.append(sure_of_all(store, pairs))
     return tuple(found)
 
 
-def fewest_harm(machine, program, many, wishes):
-    """Losses of as few lines as can be that leave some wish unfulfilled, or None."""
-    store = Store(machine[0])
-    wanted = wanted_numbers(store, wishes)
-    pairs = pairs_at_end(store, program, many)
-    fewest = None
-    for (holds, _), losses in pairs.items():
-        if not are_fulfilled(holds, wanted) and (fewest is None or len(losses) < len(fewest)):
-            fewest = losses
-    return fewest
-
-
 def is_proof(machine, program, many, wishes):
     """Whether all wishes are fulfilled behind a program whatever is lost of it."""
-    check_lossy(machine, program, many)
-    check_wishes(machine, wishes)
-    return fewest_harm(machine, program, many, wishes) is None
+    return harm(machine, program, many, wishes) is None
 
 
 def harm(machine, program, many, wishes):
     """Losses of as few lines as can be that leave some wish unfulfilled, None without any."""
     check_lossy(machine, program, many)
     check_wishes(machine, wishes)
-    return fewest_harm(machine, program, many, wishes)
+    return fewest_losses(machine, program, neighbouring(many), wishes)
 
 
 def shows_harm(machine, program, many, wishes, value):
     """Whether a value is what harm may return."""
     check_lossy(machine, program, many)
     check_wishes(machine, wishes)
-    fewest = fewest_harm(machine, program, many, wishes)
-    if fewest is None:
-        return value is None
-    if not is_losses(program, many, value) or len(value) != len(fewest):
-        return False
-    store = Store(machine[0])
-    wanted = wanted_numbers(store, wishes)
-    return not are_fulfilled(behind_losses(store, program, value), wanted)
+    return are_fewest_losses(machine, program, neighbouring(many), wishes, value)
 
 
 def sure_behind_repeats(store, program):

@@ -2,6 +2,7 @@
 
 from lostlines.checks import MOST_LINES
 from lostlines.errors import TooMany
+from lostlines.limits import counted_first, counted_if_done, counted_if_lost
 
 MOST_PAIRS = 3000
 
@@ -38,35 +39,41 @@ def within_most_lines(lines):
     return lines
 
 
-def first_pairs(store):
-    """The pairs ahead of all lines, in the form of pairs_behind."""
-    return {(store.at_first, 0): ()}
-
-
-def keep_shorter(found, pair, losses):
-    """Keep losses for a pair unless shorter ones are kept for it."""
-    if pair not in found or len(losses) < len(found[pair]):
-        found[pair] = losses
-
-
-def pairs_behind(store, pairs, number, line, many):
-    """The pairs (what the cells hold, how many lines were lost last) behind a line.
-
-    Each pair has losses of as few lines as can be that lead to it.
-    """
-    found = {}
-    for (holds, lost), losses in pairs.items():
-        keep_shorter(found, (behind_line(store, holds, line), 0), losses)
-        if lost < many:
-            keep_shorter(found, (holds, lost + 1), losses + (number,))
+def within_most_pairs(found):
+    """What comes behind some line, each once, if it is no more than is followed."""
     if len(found) > MOST_PAIRS:
         raise TooMany(MOST_PAIRS)
     return found
 
 
-def pairs_at_end(store, program, many):
+def keep_fewer(found, key, numbers):
+    """Keep the numbers that lead to something unless fewer ones are kept for it."""
+    if key not in found or len(numbers) < len(found[key]):
+        found[key] = numbers
+
+
+def first_pairs(store, rule):
+    """The pairs ahead of all lines, in the form of pairs_behind."""
+    return {(store.at_first, counted_first(rule)): ()}
+
+
+def pairs_behind(store, pairs, number, line, rule):
+    """The pairs (what the cells hold, what counts of the losses) behind a line, under a rule of loss.
+
+    Each pair has losses of as few lines as can be that lead to it.
+    """
+    found = {}
+    for (holds, counted), losses in pairs.items():
+        keep_fewer(found, (behind_line(store, holds, line), counted_if_done(rule, counted, number)), losses)
+        behind = counted_if_lost(rule, counted, number)
+        if behind is not None:
+            keep_fewer(found, (holds, behind), losses + (number,))
+    return within_most_pairs(found)
+
+
+def pairs_at_end(store, program, rule):
     """The pairs behind the last line of a program."""
-    pairs = first_pairs(store)
+    pairs = first_pairs(store, rule)
     for number, line in enumerate(program):
-        pairs = pairs_behind(store, pairs, number, line, many)
+        pairs = pairs_behind(store, pairs, number, line, rule)
     return pairs

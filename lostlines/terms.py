@@ -27,6 +27,16 @@ class Store:
         self._depths = [1 for _ in range(cells)]
         self._numbers = {}
         self._texts = {}
+        self._is_closed = False
+        self._shared = {}
+
+    def close(self):
+        """From now on let all new terms of one depth share a number.
+
+        A term with one of them in it is new, too, so the terms that have come
+        so far, and how deep all are, can still be told apart.
+        """
+        self._is_closed = True
 
     def made(self, function, parts):
         """The number of what a function makes of the terms with these numbers."""
@@ -35,10 +45,16 @@ class Store:
             depth = 1 + max([self._depths[part] for part in parts])
             if depth > self._deepest:
                 raise TooMany(self._deepest)
-            self._numbers[key] = len(self._terms)
-            self._terms.append((function,) + self.terms(parts))
-            self._depths.append(depth)
+            if depth not in self._shared:
+                self._add(depth, (function,) + self.terms(parts))
+            self._numbers[key] = self._shared.get(depth, len(self._terms) - 1)
         return self._numbers[key]
+
+    def _add(self, depth, term):
+        if self._is_closed:
+            self._shared[depth] = len(self._terms)
+        self._terms.append(term)
+        self._depths.append(depth)
 
     def number(self, term):
         """The number of a term of at most the greatest depth."""

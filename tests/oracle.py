@@ -58,8 +58,7 @@ def held_at_end(machine, program, many):
 
 
 def outcomes(machine, program, many):
-    rows = set(held_at_end(machine, program, many).values())
-    return tuple(sorted(rows, key=lambda row: [text(term) for term in row]))
+    return in_order(held_at_end(machine, program, many).values())
 
 
 def sure_terms(machine, program, many):
@@ -77,9 +76,13 @@ def is_fulfilled(holds, wishes):
 
 def harms(machine, program, many, wishes):
     """All losses of as few lines as can be that do harm."""
-    rows = held_at_end(machine, program, many)
-    harmful = [losses for losses, holds in rows.items() if not is_fulfilled(holds, wishes)]
-    return [losses for losses in harmful if len(losses) == len(harmful[0])]
+    return fewest_harms(held_at_end(machine, program, many), wishes)
+
+
+def fewest_harms(rows, wishes):
+    """Of what the cells hold by the numbers that lead to it, as few as can be that do harm: all such."""
+    harmful = [numbers for numbers, holds in rows.items() if not is_fulfilled(holds, wishes)]
+    return [numbers for numbers in harmful if len(numbers) == len(harmful[0])]
 
 
 def is_repeat_proof(machine, program, many, wishes):
@@ -139,3 +142,59 @@ def terms(machine, deepest):
         made = [(f, *read) for f, reads in enumerate(machine[1]) for read in product(found, repeat=reads)]
         found = list(range(machine[0])) + made
     return found
+
+
+def subsets(lines):
+    """All lots of lost lines, those of few lines first."""
+    return [lost for size in range(lines + 1) for lost in combinations(range(lines), size)]
+
+
+def lets(rule, lines, lost):
+    """Whether a rule of loss lets these of so many lines be lost."""
+    if rule[0] == "all":
+        return len(lost) <= rule[1]
+    if rule[0] == "kept":
+        return not any(number in rule[1] for number in lost)
+    return all(sum(1 for number in lost if first <= number < first + rule[1]) <= rule[2] for first in range(lines))
+
+
+def held_by(machine, program, rule):
+    """What the cells hold behind each of the losses that a rule lets be."""
+    lots = [lost for lost in subsets(len(program)) if lets(rule, len(program), lost)]
+    return {lost: ran(machine, left(program, lost)) for lost in lots}
+
+
+def swapped(program, swaps):
+    """A program each line of which with such a number stands behind the next one."""
+    order = list(range(len(program)))
+    for number in swaps:
+        order[number], order[number + 1] = number + 1, number
+    return [program[number] for number in order]
+
+
+def held_swapped(machine, program):
+    """What the cells hold behind each of the swaps, those of few lines first."""
+    lots = [swaps for swaps in subsets(len(program) - 1)
+            if all(number + 1 not in swaps for number in swaps)] if program else [()]
+    return {swaps: ran(machine, swapped(program, swaps)) for swaps in lots}
+
+
+def words(machine, talk, lost):
+    """What is said in a talk whose lines with these numbers are lost."""
+    holds = tuple(range(machine[0]))
+    said = []
+    for line in left(talk, lost):
+        if line[0] == "say":
+            said.append(holds[line[1]])
+        else:
+            holds = done(holds, line)
+    return tuple(said)
+
+
+def merged(said):
+    return tuple(word for at, word in enumerate(said) if at == 0 or said[at - 1] != word)
+
+
+def in_order(rows):
+    """The unlike ones of some tuples of terms, ascending by their texts."""
+    return tuple(sorted(set(rows), key=lambda row: [text(term) for term in row]))

@@ -12,20 +12,8 @@ from lostlines.errors import BadNumber, BadProgram, BadWishes, TooMany
 from lostlines.losses import is_proof
 from lostlines.machines import run
 from tests import oracle
+from tests.at_limits import TUPLES
 from tests.samples import FOUR, LEVELLING, LONE, ONCE, OVER_LIMIT, OWN, PAIR, cases, deep, some_wishes
-
-# Machines and programs by how many unlike tuples of what the cells hold can come behind the last line.
-TUPLES = {
-    3000: ((4, (1, 1)), (
-        (3, 0, (0,)), (1, 0, (3,)), (0, None, (2,)), (3, None, (2,)), (2, None, (1,)), (2, None, (1,)), (0, 1, (2,)),
-        (3, 1, (1,)), (1, 1, (0,)), (2, None, (1,)), (0, None, (3,)), (2, None, (3,)), (1, 0, (0,)), (0, None, (3,)),
-        (1, 0, (0,)), (3, 1, (1,)), (3, None, (1,)), (3, 1, (0,)), (2, 0, (0,)), (0, 1, (3,)), (0, 1, (3,)),
-        (0, 1, (3,)), (2, None, (1,)))),
-    3001: ((4, (1, 2)), (
-        (2, None, (3,)), (2, 1, (3, 0)), (1, 0, (0,)), (1, 0, (0,)), (3, 1, (3, 1)), (1, 1, (0, 3)), (1, 0, (2,)),
-        (2, None, (0,)), (0, 1, (1, 1)), (3, 0, (0,)), (2, 0, (2,)), (0, 1, (2, 1)), (0, 1, (3, 0)), (2, 1, (3, 3)),
-        (0, None, (3,)), (2, 0, (0,)), (2, 1, (0, 1)), (2, 1, (0, 3)))),
-}
 
 BACK = (0, None, (1,))
 MADE = ((1, (0, 0)),)
@@ -57,7 +45,8 @@ def chance_by_all_losses(machine, program, chance, wishes):
         weight = Fraction(1)
         for flag in flags:
             weight *= lost if flag else 1 - lost
-        if weight and oracle.is_fulfilled(oracle.ran(machine, [x for x, flag in zip(program, flags) if not flag]), wishes):
+        lines = [line for line, flag in zip(program, flags) if not flag]
+        if weight and oracle.is_fulfilled(oracle.ran(machine, lines), wishes):
             total += weight
     return total.numerator, total.denominator
 

@@ -346,8 +346,10 @@ class LeastCells(Case):
                 wishes = some_wishes_of(chance, (cells, functions), terms)
                 texts = "".join(oracle.text(term) for _, term in wishes)
                 named = max([cell for cell, _ in wishes] + [cell for cell in range(3) if f"c{cell}" in texts]) + 1
-                wanted = [next((some for some in range(named, 4) if oracle.least(found[some][kind], wishes) is not None),
-                               None) for kind in (0, 1)]
+                wanted = []
+                for kind in (0, 1):
+                    fits = [some for some in range(named, 4) if oracle.least(found[some][kind], wishes) is not None]
+                    wanted.append(fits[0] if fits else None)
                 for machine in ((cells, functions), FOUR[:1] + (functions,)):
                     answer = least_cells(machine, wishes)
                     for got, want in zip(answer, wanted):

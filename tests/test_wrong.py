@@ -12,6 +12,7 @@ from lostlines.searches import (
     can_be_proof, least_cells, least_gentle_lines, least_lines, proof_program, shortest, shortest_gentle,
     shows_shortest, shows_shortest_gentle, with_spare,
 )
+from lostlines.texts import wishes_text
 from tests.samples import (
     AT_LIMIT, FOUR, LEVELLING, LONE, ODD_VALUES, ONCE, OVER_LIMIT, OWN, PAIR, SEVENTEEN, SIXTEEN, deep, wide,
 )
@@ -159,7 +160,7 @@ class TooManyComesLast(Case):
     def test_behind_wrong_arguments(self):
         machine, _, program = OVER_LIMIT[0]
         for function, kinds in FUNCTIONS:
-            if "program" not in kinds:
+            if kinds[1:2] not in (("program",), ("talk",)):
                 continue
             for at, kind in list(enumerate(kinds))[2:]:
                 for value, worth in FEW.get(kind, ()):
@@ -171,7 +172,7 @@ class TooManyComesLast(Case):
     def test_behind_nothing_else(self):
         for function, kinds in FUNCTIONS:
             # The deep program is not gentle, so spared has another error for it.
-            if "program" in kinds and function not in (*NOT_RUN, spared):
+            if kinds[1:2] in (("program",), ("talk",)) and function not in (*NOT_RUN, spared):
                 self.too_many(8, function, PAIR, self.DEEP, *[RIGHT[name] for name in kinds[2:]])
 
     def test_too_deep_a_gentle_program(self):
@@ -181,8 +182,10 @@ class TooManyComesLast(Case):
         self.fails(spared, (PAIR, self.DEEP, 1, ((0, 1),)), "program", None)
 
     def test_too_many_parts(self):
-        functions = [function for function, kinds in FUNCTIONS if kinds == ("machine", "wishes")]
+        functions = [function for function, kinds in FUNCTIONS
+                     if kinds == ("machine", "wishes") and function is not wishes_text]
         self.assertEqual(len(functions), 6)
+        self.assertEqual(wishes_text(PAIR, SEVENTEEN).count("f0"), 13)
         for function in functions:
             self.too_many(16, function, PAIR, SEVENTEEN)
             self.fails(function, (PAIR, SEVENTEEN + ((1, 0),)), "wishes", 2)

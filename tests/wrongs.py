@@ -4,10 +4,14 @@ from lostlines import errors
 from lostlines.copies import right_chance, spared
 from lostlines.losses import harm, is_proof, is_repeat_proof, outcomes, run_lost, shows_harm, sure_terms
 from lostlines.machines import is_gentle, run, term_text
+from lostlines.rules import harm_by, is_proof_by, most_lost, needed_lines, outcomes_by, run_by, shows_harm_by
+from lostlines.says import heard, is_told_once, sayings, sure_words, talk_proofed
 from lostlines.searches import (
     can_be_proof, least_cells, least_gentle_lines, least_lines, proof_program, proofed, shortest, shortest_gentle,
     shows_shortest, shows_shortest_gentle, with_spare,
 )
+from lostlines.swaps import is_swap_proof, outcomes_swapped, run_swapped, shows_swap_harm, swap_harm
+from lostlines.texts import read_program, read_term, read_wishes, told, wishes_text, written
 from tests.samples import ONCE, PAIR, deep, wide
 
 # What an argument is, by its place in each function.
@@ -35,14 +39,39 @@ FUNCTIONS = (
     (least_cells, ("machine", "wishes")),
     (spared, ("machine", "program", "many", "wishes")),
     (right_chance, ("machine", "program", "chance", "wishes")),
+    (written, ("machine", "program")),
+    (wishes_text, ("machine", "wishes")),
+    (told, ("machine", "program", "many", "losses")),
+    (read_program, ("program text",)),
+    (read_term, ("machine", "term text")),
+    (read_wishes, ("machine", "wishes text")),
+    (run_by, ("machine", "program", "rule", "losses")),
+    (outcomes_by, ("machine", "program", "rule")),
+    (is_proof_by, ("machine", "program", "rule", "wishes")),
+    (harm_by, ("machine", "program", "rule", "wishes")),
+    (shows_harm_by, ("machine", "program", "rule", "wishes", "value")),
+    (most_lost, ("machine", "program", "wishes")),
+    (needed_lines, ("machine", "program", "wishes")),
+    (run_swapped, ("machine", "program", "swaps")),
+    (outcomes_swapped, ("machine", "program")),
+    (is_swap_proof, ("machine", "program", "wishes")),
+    (swap_harm, ("machine", "program", "wishes")),
+    (shows_swap_harm, ("machine", "program", "wishes", "value")),
+    (heard, ("machine", "talk", "many", "losses")),
+    (sayings, ("machine", "talk", "many")),
+    (sure_words, ("machine", "talk", "many")),
+    (is_told_once, ("machine", "talk", "many")),
+    (talk_proofed, ("machine", "talk", "many")),
 )
 
-# Those that take a program but do not run it.
-NOT_RUN = (is_gentle, proofed, with_spare)
+# Those that take a program or a talk but do not run it.
+NOT_RUN = (is_gentle, proofed, with_spare, written, is_told_once, talk_proofed)
 
 RIGHT = {
     "machine": PAIR, "program": (ONCE, ONCE, (0, None, (1,)), ONCE, ONCE), "term": (0, 1), "many": 1,
     "losses": (0,), "wishes": ((0, (0, 0)), (1, (0, (0, 0)))), "value": (0,), "chance": (1, 3),
+    "rule": ("window", 2, 1), "swaps": (0,), "talk": (ONCE, ("say", 1), (0, None, (1,)), ("say", 0), ("say", 1)),
+    "program text": "cells 2\nfunctions 1\nc0 = c1\n", "term text": "c1", "wishes text": "c0 holds c1\n",
 }
 
 MACHINES = (
@@ -117,6 +146,45 @@ CHANCES = tuple((value, ()) for value in (
     (-1, -2), (0, -1), (1, -1), (0, 1001), (1001, 1001), (4, 3), (1001, 1000), (True, 2), (False, 1), (0, True),
     (1, True), (None, 2), (1, None), ("1", 2), (1, "2"), ((1,), 2), (1, (2,)), ([], 2), (0, []), (0, {})))
 
+# The right program has five lines.
+RULES = tuple((value, ()) for value in (
+    None, True, 0, 1, "", "all", (), ("all",), ("window",), ("kept",), ("all", 1, 1), ("window", 2),
+    ("window", 2, 1, 1), ("kept", (), ()), ["all", 1], {"all": 1}, ("any", 1), ("last", 1), ("ALL", 1), (1, "all"), (None, 1), (("all",), 1),
+    ([], 1), ("all", 1, None), (0, 1), ("all ", 1),
+    ("all", -1), ("all", 61), ("all", True), ("all", False), ("all", None), ("all", "1"), ("all", (1,)), ("all", []),
+    ("window", 0, 0), ("window", 7, 1), ("window", -1, -1), ("window", 3, -1), ("window", 3, 4), ("window", 1, 2),
+    ("window", True, 1), ("window", 1, True), ("window", 1, False), ("window", 2, None), ("window", None, 1),
+    ("window", "2", 1), ("window", 2, "1"), ("window", (2,), 1), ("window", 2, [1]), ("window", [], 1),
+    ("kept", None), ("kept", 0), ("kept", True), ("kept", "0"), ("kept", ""), ("kept", [0]), ("kept", []), ("kept", {}),
+    ("kept", (5,)), ("kept", (-1,)), ("kept", (0, 0)), ("kept", (1, 0)), ("kept", (0, 5)), ("kept", (True,)),
+    ("kept", (False, 1)), ("kept", (None,)), ("kept", ("0",)), ("kept", ((0,),)), ("kept", ([],)), ("kept", (0, 2, 1))))
+
+SWAPS = tuple((value, ()) for value in (
+    None, True, 0, 1, "", "0", [], [0], {}, {0: 0}, (4,), (5,), (-1,), (0, 4), (0, 1), (3, 2), (2, 0), (0, 0), (1, 1),
+    (1, 2), (0, 2, 3), (True,), (False,), (0, True), (None,), ("0",), ((0,),), ([],), (0, None), (-1, 1), (0, 60)))
+
+NO_TALK_LINES = NO_LINES + (
+    ("say",), ("say", 2), ("say", -1), ("say", True), ("say", False), ("say", None), ("say", "0"), ("say", (0,)),
+    ("say", 0, 0), ("say", []), ("tell", 0), ("Say", 0), (0, "say"), ["say", 0], {"say": 0}, "say", ("say", "say"),
+    (("say", 0),), (None, 0), ((), 0), ([], 0), ("say", 0, (0,)))
+
+TALKS = (
+    (None, None), (False, None), (0, None), ("", None), ("say", None), ([], None), ([("say", 0)], None), ({}, None),
+    ({0: ONCE}, None), ((("say", 0),) * 61, None), ((ONCE,) * 61, None), ((None,) * 61, None),
+    (ONCE, 0), (("say", 0), 0), ((None,), 0), ((ONCE, None), 1), ((("say", 0), ONCE, None, None), 2),
+    ((("say", 1),) * 59 + (None,), 59),
+) + tuple(((line,), 0) for line in NO_TALK_LINES) + tuple(((("say", 0), ONCE, line, 0), 2) for line in NO_TALK_LINES)
+
+NO_TEXTS = tuple((value, 0) for value in (None, True, 0, 1, "", (), ("c0",), [], ["c0"], {}, {0: 0}))
+PROGRAM_TEXTS = NO_TEXTS + (
+    ("cells 2", 0), ("cells 2\n", 1), ("cells 5\nfunctions 1\n", 0), ("cells 2\nfunctions 3\n", 1), ("x\ny", 1),
+    ("cells 2\nfunctions 1\nc0 = c0\n", 2), ("cells 2\nfunctions 1\nc0 = c1\nx\n", 3),
+    ("cells 2\nfunctions 1\n" + "c0 = c1\n" * 61, 62))
+TERM_TEXTS = NO_TEXTS + (("c2", 0), ("c0\n", 0), ("f0", 0), ("f0(c0,c1)", 0), ("f2(c0)", 0), ("x\nc0", 0))
+WISHES_TEXTS = NO_TEXTS + (
+    ("c0 holds c0", 0), ("c0 holds c2\n", 0), ("c0 holds c0\nc0 holds c0\n", 1), ("c0 holds c0\nc1 holds c0", 1),
+    ("\n", 0), ("c1 holds c0\n\n", 1), ("x\ny\nz", 2))
+
 # For each kind of argument: its error, the name of the error's field, and pairs of a wrong value and the field.
 WRONG = {
     "machine": (errors.BadMachine, "part", MACHINES),
@@ -126,6 +194,12 @@ WRONG = {
     "losses": (errors.BadLosses, None, LOSSES),
     "wishes": (errors.BadWishes, "index", WISHES),
     "chance": (errors.BadChance, None, CHANCES),
+    "rule": (errors.BadRule, None, RULES),
+    "swaps": (errors.BadSwaps, None, SWAPS),
+    "talk": (errors.BadTalk, "index", TALKS),
+    "program text": (errors.BadText, "line", PROGRAM_TEXTS),
+    "term text": (errors.BadText, "line", TERM_TEXTS),
+    "wishes text": (errors.BadText, "line", WISHES_TEXTS),
 }
 
 FEW = {
@@ -136,4 +210,9 @@ FEW = {
     "losses": ((None, ()), ((0, 1), ()), ((60,), ())),
     "wishes": ((None, None), ((), None), (((0, 0), (0, 0)), 1)),
     "chance": ((None, ()), ((1, 0), ()), ((0, 1001), ())),
+    "rule": ((None, ()), (("all", 61), ()), (("kept", (60,)), ())),
+    "swaps": ((None, ()), ((0, 1), ()), ((59,), ())),
+    "talk": ((7, None), ((ONCE, ("say", 9)), 1)),
+    "term text": ((None, 0), ("f9", 0)),
+    "wishes text": ((None, 0), ("x\ny\n", 0)),
 }
