@@ -103,8 +103,7 @@ def weights_behind(store, weights, line, top, bottom):
     """The weights, behind a line, of what the cells can hold: in all bottom times those ahead of it."""
     found = {}
     for holds, weight in weights.items():
-        if top < bottom:
-            add_weight(found, behind_line(store, holds, line), weight * (bottom - top))
+        add_weight(found, behind_line(store, holds, line), weight * (bottom - top))
         add_weight(found, holds, weight * top)
     return within_most_pairs(found)
 

@@ -94,6 +94,12 @@ class Spared(Case):
         self.assertEqual(spared(FOUR, (ONCE, other, other, ONCE), 1, MADE), ((1, 1, 1, 2), (2, 1, 1, 1)))
         self.assertEqual(spared(FOUR, (ONCE, other, ONCE), 3, MADE), ((1, 1, 4), (4, 1, 1)))
 
+    def test_a_line_and_two_neighbours(self):
+        program = (ONCE, (2, 0, (3,)), ONCE, ONCE)
+        self.assertEqual(spared(FOUR, program, 2, MADE), ((1, 1, 1, 2), (1, 1, 2, 1)))
+        self.assertEqual(spared(FOUR, program, 3, MADE), ((1, 1, 1, 3), (1, 1, 2, 2), (1, 1, 3, 1)))
+        self.assertEqual(spared(FOUR, program[:0:-1] + program[:1], 2, MADE), ((1, 2, 1, 1), (2, 1, 1, 1)))
+
     def test_a_line_between_that_is_to_be_undone(self):
         program = (ONCE, (1, None, (2,)), ONCE)
         self.assertEqual(spared(FOUR, program, 1, MADE), ((1, 1, 2),))
@@ -140,6 +146,18 @@ class Spared(Case):
         self.assertEqual(run(machine, program)[0], (0, (0, 2)))
         self.too_many(8, spared, machine, program, 1, ((2, 2),))
         self.no_program(machine, program, 1, ((2, 0),))
+
+    def test_deeper_only_if_neighbours_are_lost(self):
+        program = (ONCE, (0, 0, (1,))) * 3 + ((0, None, (2,)),) * 2 + (ONCE, (0, 0, (1,)))
+        self.assertEqual(spared(FOUR, program, 1, ((2, 2),)), ((1,) * 10,))
+        self.too_many(8, spared, FOUR, program, 2, ((2, 2),))
+
+    def test_deeper_only_if_a_wish_is_not_fulfilled(self):
+        back = (0, None, (2,))
+        program = (ONCE, (0, 0, (1,))) * 2 + (back, (3, 0, (0,)), (0, 0, (3,)), back, ONCE, (0, 0, (1,)))
+        self.assertEqual(run(FOUR, program)[3], (0, 2))
+        self.too_many(8, spared, FOUR, program, 1, ((3, (0, 2)),))
+        self.assertEqual(len(spared(FOUR, program[1:], 1, ((3, (0, 2)),))), 1)
 
     def test_by_all_numbers_of_times(self):
         chance = random.Random(12)
