@@ -45,16 +45,18 @@ class Store:
             depth = 1 + max([self._depths[part] for part in parts])
             if depth > self._deepest:
                 raise TooMany(self._deepest)
-            if depth not in self._shared:
-                self._add(depth, (function,) + self.terms(parts))
-            self._numbers[key] = self._shared.get(depth, len(self._terms) - 1)
+            self._numbers[key] = self._new(depth, (function,) + self.terms(parts))
         return self._numbers[key]
 
-    def _add(self, depth, term):
-        if self._is_closed:
-            self._shared[depth] = len(self._terms)
+    def _new(self, depth, term):
+        if depth in self._shared:
+            return self._shared[depth]
+        number = len(self._terms)
         self._terms.append(term)
         self._depths.append(depth)
+        if self._is_closed:
+            self._shared[depth] = number
+        return number
 
     def number(self, term):
         """The number of a term of at most the greatest depth."""
