@@ -1,7 +1,8 @@
 """What arguments must be: each check raises the error that the document names."""
 
 from lostlines.errors import (
-    BadChance, BadLosses, BadMachine, BadNumber, BadProgram, BadRule, BadSwaps, BadTalk, BadTerm, BadWishes,
+    BadCells, BadChance, BadLosses, BadMachine, BadNumber, BadProgram, BadRelay, BadRule, BadSwaps, BadTalk, BadTerm,
+    BadWishes,
 )
 from lostlines.limits import lets
 from lostlines.terms import DEEPEST
@@ -13,6 +14,7 @@ MOST_LINES = 60
 MOST_NEIGHBOURS = 3
 MOST_BOTTOM = 1000
 MOST_WIDTH = 6
+MOST_STAGES = 4
 
 
 def is_between(value, low, high):
@@ -108,6 +110,19 @@ def check_many(many):
         raise BadNumber("no integer from 1 to 3")
 
 
+def check_lossy(machine, program, many):
+    """Check the three arguments that functions of programs whose lines may be lost begin with."""
+    check_machine(machine)
+    check_program(machine, program)
+    check_many(many)
+
+
+def check_line_count(lines):
+    """Raise BadNumber for a value that is no number of lines of a program."""
+    if not is_between(lines, 0, MOST_LINES):
+        raise BadNumber("no integer from 0 to 60")
+
+
 def check_chance(chance):
     """Raise BadChance for a value that is no chance."""
     if not isinstance(chance, tuple) or len(chance) != 2:
@@ -196,3 +211,35 @@ def check_talk(machine, talk):
     for index, line in enumerate(talk):
         if not is_line(machine, line) and not is_saying(machine, line):
             raise BadTalk(index)
+
+
+def check_cells(machine, cells):
+    """Raise BadCells for a value that is no ascending tuple of unlike cells of a machine."""
+    if not are_numbers(cells, machine[0]):
+        raise BadCells("no cells of the machine")
+
+
+def are_takes(ahead, value):
+    """Whether a value is a tuple of as many of so many cells as a machine may have, alike or not."""
+    if not isinstance(value, tuple) or not 1 <= len(value) <= MOST_CELLS:
+        return False
+    return all([is_number_below(cell, ahead) for cell in value])
+
+
+def is_stage(ahead, functions, value):
+    """Whether a value is a stage, with these functions, behind a machine of so many cells."""
+    if not isinstance(value, tuple) or len(value) != 2 or not are_takes(ahead, value[1]):
+        return False
+    program, takes = value
+    return are_lines((len(takes), functions), program) and len(program) <= MOST_LINES
+
+
+def check_relay(machine, stages):
+    """Raise BadRelay for a value that is no relay of a machine."""
+    if not isinstance(stages, tuple) or not 1 <= len(stages) <= MOST_STAGES:
+        raise BadRelay(None)
+    ahead, functions = machine
+    for index, stage in enumerate(stages):
+        if not is_stage(ahead, functions, stage):
+            raise BadRelay(index)
+        ahead = len(stage[1])

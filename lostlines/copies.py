@@ -2,8 +2,11 @@
 
 from math import gcd
 
-from lostlines.checks import check_chance, check_machine, check_many, check_program, check_wishes, is_gentle_line
+from lostlines.checks import (
+    check_chance, check_lossy, check_machine, check_program, check_wishes, is_gentle_line,
+)
 from lostlines.errors import BadProgram
+from lostlines.harms import least_harms
 from lostlines.limits import neighbouring
 from lostlines.runs import behind_line, behind_losses, pairs_at_end, within_most_pairs
 from lostlines.terms import DEEPEST, Store
@@ -19,26 +22,6 @@ def is_sparing(machine, program, wishes):
     # A program that fulfils nothing is wrong even if it makes too deep a term.
     store = Store(machine[0], DEEPEST + MOST_SPARED)
     return are_fulfilled(behind_losses(store, program, ()), wanted_numbers(store, wishes))
-
-
-def all_losses(lines, many):
-    """All losses of so many lines."""
-    rows = [((), 0)]
-    for number in range(lines):
-        lost = [(losses + (number,), last + 1) for losses, last in rows if last < many]
-        rows = [(losses, 0) for losses, _ in rows] + lost
-    return [losses for losses, _ in rows]
-
-
-def least_harms(store, program, many, wishes):
-    """The losses that do harm, but none of whose parts with fewer lines does."""
-    wanted = wanted_numbers(store, wishes)
-    found = []
-    for losses in sorted(all_losses(len(program), many), key=len):
-        has_part = any([all([number in losses for number in part]) for part in found])
-        if not has_part and not are_fulfilled(behind_losses(store, program, losses), wanted):
-            found.append(losses)
-    return found
 
 
 def stretches_of(losses):
@@ -75,9 +58,7 @@ def averting_rows(harms, lines, many, total):
 
 def spared(machine, program, many, wishes):
     """How often each line must stand, as few in all as can be, for a gentle program to be proof."""
-    check_machine(machine)
-    check_program(machine, program)
-    check_many(many)
+    check_lossy(machine, program, many)
     check_wishes(machine, wishes)
     if not is_sparing(machine, program, wishes):
         raise BadProgram(None)

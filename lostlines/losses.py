@@ -1,18 +1,12 @@
 """What can come of a program whose lines may be lost, or happen more than once."""
 
-from lostlines.checks import check_losses, check_machine, check_many, check_program, check_wishes
-from lostlines.harms import are_fewest_losses, fewest_losses, outcomes_under
+from lostlines.checks import check_losses, check_lossy, check_wishes
+from lostlines.harms import are_fewest_losses, fewest_losses, outcomes_under, sure_of_all
 from lostlines.limits import neighbouring
-from lostlines.runs import behind_line, behind_losses, first_pairs, pairs_behind, repeated
+from lostlines.runs import behind_losses, first_pairs, pairs_behind, repeated, rows_of
+from lostlines.surely import sure_behind_repeats
 from lostlines.terms import Store
 from lostlines.wanted import are_fulfilled, check_parts, wanted_numbers
-
-
-def check_lossy(machine, program, many):
-    """Check the arguments that all functions of this file begin with."""
-    check_machine(machine)
-    check_program(machine, program)
-    check_many(many)
 
 
 def run_lost(machine, program, many, losses):
@@ -29,29 +23,16 @@ def outcomes(machine, program, many):
     return outcomes_under(machine, program, neighbouring(many))
 
 
-def sure_of(store, pairs, cell):
-    """The term that a cell holds in all pairs, None if there are several."""
-    held = [holds[cell] for holds, _ in pairs]
-    if any([number != held[0] for number in held]):
-        return None
-    return store.terms(held)[0]
-
-
-def sure_of_all(store, pairs):
-    """For each cell the term that it holds in all pairs, or None."""
-    return tuple([sure_of(store, pairs, cell) for cell in range(len(store.at_first))])
-
-
 def sure_terms(machine, program, many):
     """For each moment, for each cell, the term that it is sure of, or None."""
     check_lossy(machine, program, many)
     rule = neighbouring(many)
     store = Store(machine[0])
-    pairs = first_pairs(store, rule)
-    found = [sure_of_all(store, pairs)]
+    pairs = first_pairs([store.at_first], rule)
+    found = [sure_of_all(store, rows_of(pairs))]
     for number, line in enumerate(program):
         pairs = pairs_behind(store, pairs, number, line, rule)
-        found.append(sure_of_all(store, pairs))
+        found.append(sure_of_all(store, rows_of(pairs)))
     return tuple(found)
 
 
@@ -72,23 +53,6 @@ def shows_harm(machine, program, many, wishes, value):
     check_lossy(machine, program, many)
     check_wishes(machine, wishes)
     return are_fewest_losses(machine, program, neighbouring(many), wishes, value)
-
-
-def sure_behind_repeats(store, program):
-    """For each cell the number of the term that it holds however often lines happen, or None.
-
-    Nothing is known of the functions, so what one makes is the same in all runs
-    just if all that it reads is. A line that reads the cell it sets makes a
-    deeper term each time that it happens, so behind it the cell is sure of none.
-    """
-    sure = store.at_first
-    for line in program:
-        cell, _, sources = line
-        if cell in sources or any([sure[source] is None for source in sources]):
-            sure = sure[:cell] + (None,) + sure[cell + 1:]
-        else:
-            sure = behind_line(store, sure, line)
-    return sure
 
 
 def is_repeat_proof(machine, program, many, wishes):

@@ -52,9 +52,14 @@ def keep_fewer(found, key, numbers):
         found[key] = numbers
 
 
-def first_pairs(store, rule):
-    """The pairs ahead of all lines, in the form of pairs_behind."""
-    return {(store.at_first, counted_first(rule)): ()}
+def first_pairs(rows, rule):
+    """The pairs ahead of all lines, where the cells can hold any of these rows, in the form of pairs_behind."""
+    return {(holds, counted_first(rule)): () for holds in rows}
+
+
+def rows_of(pairs):
+    """What the cells hold in each of the pairs."""
+    return [holds for holds, _ in pairs]
 
 
 def pairs_behind(store, pairs, number, line, rule):
@@ -71,9 +76,14 @@ def pairs_behind(store, pairs, number, line, rule):
     return within_most_pairs(found)
 
 
-def pairs_at_end(store, program, rule):
-    """The pairs behind the last line of a program."""
-    pairs = first_pairs(store, rule)
+def pairs_from(store, rows, program, rule):
+    """The pairs behind the last line of a program ahead of which the cells can hold any of these rows."""
+    pairs = first_pairs(rows, rule)
     for number, line in enumerate(program):
         pairs = pairs_behind(store, pairs, number, line, rule)
     return pairs
+
+
+def pairs_at_end(store, program, rule):
+    """The pairs behind the last line of a program."""
+    return pairs_from(store, [store.at_first], program, rule)

@@ -1,7 +1,7 @@
 """The shortest programs that fulfil wishes, and programs that are proof."""
 
 from lostlines.checks import (
-    MOST_CELLS, are_lines, check_machine, check_many, check_program, check_wishes, is_gentle_line,
+    MOST_CELLS, are_lines, check_lossy, check_machine, check_many, check_program, check_wishes, is_gentle_line,
 )
 from lostlines.errors import NoProgram, TooMany
 from lostlines.paths import fewest_lines
@@ -81,9 +81,7 @@ def can_be_proof(machine, wishes):
 
 def proofed(machine, program, many):
     """The program each line of which stands many + 1 times."""
-    check_machine(machine)
-    check_program(machine, program)
-    check_many(many)
+    check_lossy(machine, program, many)
     return within_most_lines(repeated(program, many + 1))
 
 

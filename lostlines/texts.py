@@ -1,7 +1,7 @@
 """Programs, terms, wishes and runs as text."""
 
 from lostlines.checks import (
-    MOST_CELLS, MOST_FUNCTIONS, MOST_LINES, MOST_READ, check_losses, check_machine, check_many, check_program,
+    MOST_CELLS, MOST_FUNCTIONS, MOST_LINES, MOST_READ, check_losses, check_lossy, check_machine, check_program,
     check_wishes,
 )
 from lostlines.errors import BadText
@@ -180,9 +180,7 @@ def read_wishes(machine, text):
 
 def told(machine, program, many, losses):
     """A run with losses as text."""
-    check_machine(machine)
-    check_program(machine, program)
-    check_many(many)
+    check_lossy(machine, program, many)
     check_losses(program, neighbouring(many), losses)
     store = Store(machine[0])
     holds = store.at_first

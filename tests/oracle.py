@@ -195,6 +195,78 @@ def merged(said):
     return tuple(word for at, word in enumerate(said) if at == 0 or said[at - 1] != word)
 
 
+def harmful(machine, program, many, wishes):
+    """All losses that do harm."""
+    return [losses for losses, holds in held_at_end(machine, program, many).items() if not is_fulfilled(holds, wishes)]
+
+
+def is_proof(machine, program, many, wishes):
+    return not harmful(machine, program, many, wishes)
+
+
+def chosen(program, numbers):
+    return tuple(program[number] for number in numbers)
+
+
+def needless(machine, program, many, wishes):
+    lots = [chosen(program, [at for at in range(len(program)) if at != out]) for out in range(len(program))]
+    return tuple(out for out, lot in enumerate(lots) if is_proof(machine, lot, many, wishes))
+
+
+def least_within(machine, program, many, wishes):
+    lots = [numbers for numbers in subsets(len(program)) if is_proof(machine, chosen(program, numbers), many, wishes)]
+    return tuple(sorted(numbers for numbers in lots if len(numbers) == len(lots[0])))
+
+
+def small_harms(machine, program, many, wishes):
+    found = harmful(machine, program, many, wishes)
+    return tuple(sorted(one for one in found if not any(set(other) < set(one) for other in found)))
+
+
+def forgot(holds, forgets):
+    """What the cells can hold if any of some cells forget: None for nothing."""
+    return {
+        tuple(None if cell in lot else term for cell, term in enumerate(holds))
+        for size in range(len(forgets) + 1) for lot in combinations(forgets, size)
+    }
+
+
+def forgetting(machine, program, forgets):
+    """What the cells can hold at the end, over all ways of forgetting."""
+    rows = forgot(range(machine[0]), forgets)
+    for line in program:
+        held = set()
+        for holds in rows:
+            if any(holds[source] is None for source in line[2]):
+                held.add(holds[:line[0]] + (None,) + holds[line[0] + 1:])
+            else:
+                held.add(done(holds, line))
+        rows = {after for holds in held for after in forgot(holds, forgets)}
+    return rows
+
+
+def relayed(machine, stages, many):
+    """What the cells of the last stage hold, for all losses in each stage."""
+    rows = []
+    for lots in product(*[all_losses(len(program), many) for program, _ in stages]):
+        holds = tuple(range(machine[0]))
+        for (program, takes), losses in zip(stages, lots):
+            holds = tuple(holds[cell] for cell in takes)
+            for line in left(program, losses):
+                holds = done(holds, line)
+        rows.append(holds)
+    return rows
+
+
+def both(machine, program, many):
+    """What the cells hold, for all losses and all numbers of times that the other lines happen."""
+    rows = []
+    for times in product(range(many + 2), repeat=len(program)):
+        if is_allowed([number for number, often in enumerate(times) if often == 0], many):
+            rows.append(ran(machine, [line for line, often in zip(program, times) for _ in range(often)]))
+    return rows
+
+
 def in_order(rows):
     """The unlike ones of some tuples of terms, ascending by their texts."""
     return tuple(sorted(set(rows), key=lambda row: [text(term) for term in row]))

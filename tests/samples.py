@@ -107,3 +107,25 @@ def some_wishes(chance, machine, holds):
         if chance.randrange(3) > 0 or (cell == machine[0] - 1 and not wishes):
             wishes.append((cell, holds[cell] if chance.randrange(6) > 0 else 0))
     return tuple(wishes)
+
+
+def sure_wishes(chance, sure):
+    """Wishes of some of the cells that are sure of a term, for it; None if no cell is."""
+    cells = [cell for cell, term in enumerate(sure) if term is not None]
+    made = [cell for cell in cells if isinstance(sure[cell], tuple)] or cells
+    if not cells:
+        return None
+    taken = {cell for cell in cells if chance.randrange(3) == 0} | {chance.choice(made)}
+    return tuple((cell, sure[cell]) for cell in sorted(taken))
+
+
+def some_proof(chance, machine, many, most_lines):
+    """A program of up to so many lines, most of which stand many + 1 times, one behind another, many of them gentle."""
+    program = []
+    for _ in range(most_lines):
+        line = some_line(chance, machine)
+        if line[0] in line[2] and chance.randrange(3) > 0:
+            continue
+        program.extend([line] * (many + 1 if chance.randrange(4) > 0 else 1))
+    start = chance.randrange(len(program) - most_lines + 1) if len(program) > most_lines else 0
+    return tuple(program[start:start + most_lines])
