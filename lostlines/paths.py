@@ -7,9 +7,9 @@ from lostlines.wanted import are_fulfilled, recipes_of, wanted_numbers
 OTHER = -1
 
 
-def first_parts(cells, recipes):
-    """The parts that the cells hold at first."""
-    return tuple([cell if cell in recipes else OTHER for cell in range(cells)])
+def first_parts(cells, recipes, barred):
+    """The parts that the cells hold at first, those of barred cells left out."""
+    return tuple([cell if cell in recipes and cell not in barred else OTHER for cell in range(cells)])
 
 
 def places_of(holds, barred):
@@ -28,14 +28,16 @@ def lines_for(makable, holds, cell, gentle):
     return found
 
 
-def steps_from(recipes, holds, gentle):
-    """Pairs of a line and what the cells hold behind it, for all lines that make a part."""
+def steps_from(recipes, holds, gentle, barred):
+    """Pairs of a line and what the cells hold behind it, for all lines that make a part in no barred cell."""
     makable = []
     for part, recipe in recipes.items():
         if recipe is not None and part not in holds and all([read in holds for read in recipe[1]]):
             makable.append((part, recipe[0], recipe[1]))
     found = []
     for cell in range(len(holds)):
+        if cell in barred:
+            continue
         for line, part in lines_for(makable, holds, cell, gentle):
             found.append((line, holds[:cell] + (part,) + holds[cell + 1:]))
     return found
@@ -50,15 +52,16 @@ def program_to(came, holds):
     return tuple(reversed(lines))
 
 
-def fewest_lines(cells, wishes, gentle):
+def fewest_lines(cells, wishes, gentle, barred=()):
     """A program of as few lines as can be that fulfils wishes, of gentle lines if asked for; or None.
 
-    A line that makes no part can be left out, so only lines that make one are tried.
+    A line that makes no part can be left out, so only lines that make one are tried. Barred cells, which hold
+    no part at first, never hold one, so no line reads them.
     """
     store = Store(cells)
     recipes = recipes_of(store, wishes)
     wanted = wanted_numbers(store, wishes)
-    first = first_parts(cells, recipes)
+    first = first_parts(cells, recipes, barred)
     came = {first: None}
     ahead = [first]
     while ahead:
@@ -66,7 +69,7 @@ def fewest_lines(cells, wishes, gentle):
         for holds in ahead:
             if are_fulfilled(holds, wanted):
                 return program_to(came, holds)
-            for line, held in steps_from(recipes, holds, gentle):
+            for line, held in steps_from(recipes, holds, gentle, barred):
                 if held not in came:
                     came[held] = (holds, line)
                     behind.append(held)

@@ -60,6 +60,55 @@ BENCHES = """
 raises BadProgram(index=None)
 """
 
+LEASTS = """
+>>> from lostlines.leasts import least_proof_lines, shows_least_proof
+>>> machine, wishes = (2, (1,)), ((1, (0, 0)),)
+>>> [least_proof_lines(machine, 1, wishes), shows_least_proof(machine, 1, wishes, ((1, 0, (0,)),) * 2), least_proof_lines((1, (1,)), 1, ((0, (0, 0)),))]
+[2, True, None]
+"""
+
+SURES = """
+>>> from lostlines.sures import core, getting_sure, most_borne
+>>> machine, line = (2, (1,)), (1, 0, (0,))
+>>> [getting_sure(machine, (line,) * 3, 1), core(machine, (line,) * 3, 1), most_borne(machine, (line,) * 3, ((1, (0, 0)),))]
+[(1,), ((1, 0, (0,)),), 2]
+"""
+
+LEAVINGS = """
+>>> from lostlines.leavings import least_within, needless
+>>> machine, line = (2, (1,)), (1, 0, (0,))
+>>> [needless(machine, (line,) * 3, 1, ((1, (0, 0)),)), least_within(machine, (line,) * 3, 1, ((1, (0, 0)),))]
+[(0, 1, 2), ((0, 1), (0, 2), (1, 2))]
+"""
+
+COUNTS = """
+>>> from lostlines.counts import count_losses, harm_counts, right_losses, small_harms
+>>> machine, program = (2, (1,)), ((1, 0, (0,)), (0, 0, (0,)), (1, 0, (0,)))
+>>> [count_losses(3, 1), right_losses(machine, program, 1, ((1, (0, 0)),)), harm_counts(machine, program, 1, ((1, (0, 0)),)), small_harms(machine, program, 1, ((1, (0, 0)),))]
+[5, 2, (1, 1, 1, 0), ((),)]
+"""
+
+FORGETS = """
+>>> from lostlines.forgets import bearing, bears_forgetting, can_bear
+>>> machine, wishes = (3, (1,)), ((1, (0, 0)),)
+>>> [can_bear(machine, (0,), wishes), can_bear(machine, (2,), wishes), bears_forgetting(machine, ((2, 0, (0,)), (1, None, (2,))), (2,), wishes), len(bearing(machine, (2,), wishes))]
+[False, True, False, 1]
+"""
+
+RELAYS = """
+>>> from lostlines.relays import relay_outcomes, relay_sure
+>>> machine, line = (2, (1,)), (1, 0, (0,))
+>>> [relay_sure(machine, ((((line,) * 2), (0, 1)), (((0, None, (1,)),), (0, 1))), 1), relay_outcomes(machine, (((line,), (0, 1)), ((), (1,))), 1)]
+[(None, (0, 0)), ((1,), ((0, 0),))]
+"""
+
+BOTHS = """
+>>> from lostlines.boths import is_both_proof
+>>> machine, line = (2, (1,)), (1, 0, (0,))
+>>> [is_both_proof(machine, (line,) * 2, 1, ((1, (0, 0)),)), is_both_proof(machine, (line,), 1, ((1, (0, 0)),))]
+[True, False]
+"""
+
 
 def answer(code, names):
     """What an example's line shows: its value, or the error that it raises with its fields."""
@@ -100,6 +149,27 @@ class Examples(unittest.TestCase):
 
     def test_benches(self):
         self.assertEqual(self.check(BENCHES), 2)
+
+    def test_leasts(self):
+        self.assertEqual(self.check(LEASTS), 1)
+
+    def test_sures(self):
+        self.assertEqual(self.check(SURES), 1)
+
+    def test_leavings(self):
+        self.assertEqual(self.check(LEAVINGS), 1)
+
+    def test_counts(self):
+        self.assertEqual(self.check(COUNTS), 1)
+
+    def test_forgets(self):
+        self.assertEqual(self.check(FORGETS), 1)
+
+    def test_relays(self):
+        self.assertEqual(self.check(RELAYS), 1)
+
+    def test_boths(self):
+        self.assertEqual(self.check(BOTHS), 1)
 
 
 if __name__ == "__main__":

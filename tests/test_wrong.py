@@ -6,6 +6,7 @@ from itertools import combinations
 
 from lostlines import errors
 from lostlines.copies import right_chance, spared
+from lostlines.counts import small_harms
 from lostlines.losses import harm, is_proof, is_repeat_proof, outcomes, run_lost, shows_harm, sure_terms
 from lostlines.machines import is_gentle, run, term_text
 from lostlines.searches import (
@@ -171,8 +172,8 @@ class TooManyComesLast(Case):
 
     def test_behind_nothing_else(self):
         for function, kinds in FUNCTIONS:
-            # The deep program is not gentle, so spared has another error for it.
-            if kinds[1:2] in (("program",), ("talk",)) and function not in (*NOT_RUN, spared):
+            # The deep program is not gentle, so spared has another error for it; small_harms has it for its 13 lines.
+            if kinds[1:2] in (("program",), ("talk",)) and function not in (*NOT_RUN, spared, small_harms):
                 self.too_many(8, function, PAIR, self.DEEP, *[RIGHT[name] for name in kinds[2:]])
 
     def test_too_deep_a_gentle_program(self):

@@ -1,15 +1,22 @@
 """The functions with the kinds of their arguments, right values of each kind and wrong ones with the error's field."""
 
 from lostlines import errors
+from lostlines.boths import is_both_proof
 from lostlines.copies import right_chance, spared
+from lostlines.counts import count_losses, harm_counts, right_losses, small_harms
+from lostlines.forgets import bearing, bears_forgetting, can_bear
+from lostlines.leasts import least_proof_lines, shows_least_proof
+from lostlines.leavings import least_within, needless
 from lostlines.losses import harm, is_proof, is_repeat_proof, outcomes, run_lost, shows_harm, sure_terms
 from lostlines.machines import is_gentle, run, term_text
+from lostlines.relays import relay_outcomes, relay_sure
 from lostlines.rules import harm_by, is_proof_by, most_lost, needed_lines, outcomes_by, run_by, shows_harm_by
 from lostlines.says import heard, is_told_once, sayings, sure_words, talk_proofed
 from lostlines.searches import (
     can_be_proof, least_cells, least_gentle_lines, least_lines, proof_program, proofed, shortest, shortest_gentle,
     shows_shortest, shows_shortest_gentle, with_spare,
 )
+from lostlines.sures import core, getting_sure, most_borne
 from lostlines.swaps import is_swap_proof, outcomes_swapped, run_swapped, shows_swap_harm, swap_harm
 from lostlines.texts import read_program, read_term, read_wishes, told, wishes_text, written
 from tests.samples import ONCE, PAIR, deep, wide
@@ -62,6 +69,23 @@ FUNCTIONS = (
     (sure_words, ("machine", "talk", "many")),
     (is_told_once, ("machine", "talk", "many")),
     (talk_proofed, ("machine", "talk", "many")),
+    (least_proof_lines, ("machine", "many", "wishes")),
+    (shows_least_proof, ("machine", "many", "wishes", "value")),
+    (getting_sure, ("machine", "program", "many")),
+    (core, ("machine", "program", "many")),
+    (most_borne, ("machine", "program", "wishes")),
+    (needless, ("machine", "proof", "many", "wishes")),
+    (least_within, ("machine", "proof", "many", "wishes")),
+    (count_losses, ("lines", "many")),
+    (right_losses, ("machine", "program", "many", "wishes")),
+    (harm_counts, ("machine", "program", "many", "wishes")),
+    (small_harms, ("machine", "program", "many", "wishes")),
+    (bears_forgetting, ("machine", "program", "forgets", "wishes")),
+    (can_bear, ("machine", "forgets", "wishes")),
+    (bearing, ("machine", "forgets", "wishes")),
+    (relay_outcomes, ("machine", "stages", "many")),
+    (relay_sure, ("machine", "stages", "many")),
+    (is_both_proof, ("machine", "program", "many", "wishes")),
 )
 
 # Those that take a program or a talk but do not run it.
@@ -72,6 +96,8 @@ RIGHT = {
     "losses": (0,), "wishes": ((0, (0, 0)), (1, (0, (0, 0)))), "value": (0,), "chance": (1, 3),
     "rule": ("window", 2, 1), "swaps": (0,), "talk": (ONCE, ("say", 1), (0, None, (1,)), ("say", 0), ("say", 1)),
     "program text": "cells 2\nfunctions 1\nc0 = c1\n", "term text": "c1", "wishes text": "c0 holds c1\n",
+    "proof": (ONCE, ONCE, (0, None, (1,)), (0, None, (1,)), ONCE, ONCE), "lines": 5, "forgets": (),
+    "stages": (((ONCE, ONCE), (1, 0)), (((2, 1, (0, 1)),), (0, 1, 1))),
 }
 
 MACHINES = (
@@ -175,6 +201,35 @@ TALKS = (
     ((("say", 1),) * 59 + (None,), 59),
 ) + tuple(((line,), 0) for line in NO_TALK_LINES) + tuple(((("say", 0), ONCE, line, 0), 2) for line in NO_TALK_LINES)
 
+# Programs, and some that are not proof for the right wishes.
+PROOFS = PROGRAMS + tuple((program, None) for program in ((), (ONCE,), RIGHT["program"], RIGHT["proof"][1:]))
+
+COUNTS = tuple((value, ()) for value in (
+    -1, 61, 100, True, False, None, "", "5", (), (5,), [], [5], {}, {5: 5}))
+
+FORGETS = tuple((value, ()) for value in (
+    None, True, 0, 1, "", "0", [], [0], {}, {0: 0}, (2,), (-1,), (0, 2), (0, 0), (1, 0), (0, 1, 1), (0, 1, 2),
+    (True,), (False,), (0, True), (None,), ("0",), ((0,),), ([],), (0, None), ((), 0)))
+
+STAGE = RIGHT["stages"][0]
+# A stage takes from the cells of the one ahead, and its lines are for its own cells.
+NO_STAGES = (
+    None, True, 0, "", "ab", (), ((),), ((), (0,), ()), [(), (0,)], {0: (), 1: (0,)}, ((), (0,), None),
+    ((), None), ((), ()), ((), 0), ((), "0"), ((), [0]), ((), {0: 0}), ((), (0,) * 5), ((), (2,)), ((), (-1,)),
+    ((), (0, 2)), ((), (True,)), ((), (False, 0)), ((), (None,)), ((), ("0",)), ((), ((0,),)), ((), ([],)),
+    (None, (0, 1)), (0, (0, 1)), ([], (0, 1)), ("", (0, 1)), ({}, (0, 1)), (ONCE, (0, 1)), ([ONCE], (0, 1)),
+    ((ONCE,) * 61, (0, 1)), ((ONCE, None), (0, 1)), ((ONCE,), (0,)), (((2, 0, (0,)),), (0, 1)),
+    (((0, 0, (1,)),), (0,)), (((0, None, (0,)),), (0, 1)), (((0, 2, (0,)),), (0, 1)), (((True, 0, (0,)),), (0, 1)),
+    ((0, 1), (ONCE,)),
+)
+
+RELAYS = (
+    (None, None), (True, None), (0, None), ("", None), ((), None), ([], None), ([STAGE], None), ({}, None),
+    ({0: STAGE}, None), ((((), (0, 1)),) * 5, None), ((None,) * 5, None),
+    (STAGE, 0), ((STAGE, None), 1), ((((), (0, 1)),) * 3 + (None,), 3), ((((), (0,)), ((), (1,))), 1),
+    ((((), (1,)), STAGE), 1), ((((), (0, 0, 0)), ((), (2,)), ((), (1,)), None), 2),
+) + tuple(((stage,), 0) for stage in NO_STAGES) + tuple(((STAGE, STAGE, stage, None), 2) for stage in NO_STAGES)
+
 NO_TEXTS = tuple((value, 0) for value in (None, True, 0, 1, "", (), ("c0",), [], ["c0"], {}, {0: 0}))
 PROGRAM_TEXTS = NO_TEXTS + (
     ("cells 2", 0), ("cells 2\n", 1), ("cells 5\nfunctions 1\n", 0), ("cells 2\nfunctions 3\n", 1), ("x\ny", 1),
@@ -200,6 +255,10 @@ WRONG = {
     "program text": (errors.BadText, "line", PROGRAM_TEXTS),
     "term text": (errors.BadText, "line", TERM_TEXTS),
     "wishes text": (errors.BadText, "line", WISHES_TEXTS),
+    "proof": (errors.BadProgram, "index", PROOFS),
+    "lines": (errors.BadNumber, None, COUNTS),
+    "forgets": (errors.BadCells, None, FORGETS),
+    "stages": (errors.BadRelay, "index", RELAYS),
 }
 
 FEW = {
@@ -215,4 +274,8 @@ FEW = {
     "talk": ((7, None), ((ONCE, ("say", 9)), 1)),
     "term text": ((None, 0), ("f9", 0)),
     "wishes text": ((None, 0), ("x\ny\n", 0)),
+    "proof": ((7, None), ((ONCE, 7), 1), ((ONCE,) * 61, None)),
+    "lines": ((None, ()), (61, ()), (True, ())),
+    "forgets": ((None, ()), ((9,), ()), ((0, 0), ())),
+    "stages": ((7, None), ((), None), ((STAGE, 7), 1), ((((), (9,)),), 0)),
 }
