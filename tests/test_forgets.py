@@ -190,6 +190,25 @@ class CanBear(Case):
                         if not found or len(bearing(machine, lot, (wish,))) <= most:
                             self.assertIs(found, wish in borne)
 
+    def test_by_all_lines_that_leave_the_cells_alone(self):
+        chance = random.Random(664)
+        seen = set()
+        for machine, deepest in (((2, (1,)), 4), (PAIR, 3), (THREE, 3), ((3, (2,)), 2), ((4, (1,)), 2)):
+            terms = oracle.terms(machine, deepest)
+            for lot in lots(machine[0]):
+                lines = [line for line in oracle.all_lines(machine)
+                         if line[0] not in lot and not any(source in lot for source in line[2])]
+                lengths = oracle.lengths(machine, lines, deepest)
+                for at in range(12):
+                    wishes = some_wishes(chance, machine, chance.choice(list(lengths)))
+                    if at % 3 == 0:
+                        wishes = tuple((cell, chance.choice(terms)) for cell, _ in wishes)
+                    wanted = oracle.least(lengths, wishes) is not None and all(cell not in lot for cell, _ in wishes)
+                    seen.add((wanted, len(lot)))
+                    with self.subTest(machine=machine, forgets=lot, wishes=wishes):
+                        self.assertIs(self.check_borne(machine, lot, wishes), wanted)
+        self.assertGreaterEqual(seen, {(wanted, size) for wanted in (True, False) for size in range(3)})
+
     def test_some_program_bears_it(self):
         """What some program bears, can_bear tells."""
         chance = random.Random(663)
